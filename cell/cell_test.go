@@ -8,6 +8,7 @@ import (
 
 	"butler/api"
 	"butler/cell"
+	"butler/trial"
 	"butler/turn"
 )
 
@@ -20,28 +21,13 @@ func script(l ...int) []api.Call {
 	return out
 }
 
-// step makes a step of a thread.
+// short names for what nearly every row is made of
 func step(thread, cell, op, before, after int) api.Step {
-	return api.Step{Thread: thread, Cell: cell, Op: op, Old: before, New: after}
+	return trial.Step(thread, cell, op, before, after)
 }
-
-func begin(thread, i int) api.Step { return step(thread, -1, api.StepBegin, i, 0) }
-
-func end(thread, i int, code api.Errno) api.Step {
-	return step(thread, -1, api.StepEnd, i, int(code))
-}
-
-func values(l ...int) []api.Answer {
-	var out []api.Answer
-	for _, v := range l {
-		out = append(out, api.Answer{Value: v})
-	}
-	return out
-}
-
-func same(a, b [][]api.Answer) bool {
-	return slices.EqualFunc(a, b, slices.Equal[[]api.Answer])
-}
+func begin(thread, i int) api.Step               { return trial.Begin(thread, i) }
+func end(thread, i int, code api.Errno) api.Step { return trial.End(thread, i, code) }
+func values(l ...int) []api.Answer               { return trial.Values(l...) }
 
 // game is what is played.
 type game struct {
@@ -64,44 +50,34 @@ func (g game) plays(t *testing.T) (*turn.World, [][]api.Answer) {
 func (g game) holds(t *testing.T) (*turn.World, [][]api.Answer) {
 	t.Helper()
 	w, a := g.plays(t)
-	trace, answers, stuck := played(g.schedule, g.values, g.scripts)
-	if !slices.Equal(w.Trace(), trace) {
-		t.Fatalf("%v: the trace\n%v\nis to be\n%v", g, w.Trace(), trace)
+	want := g.model().Play(g.schedule)
+	if !slices.Equal(w.Trace(), want.Trace) {
+		t.Fatalf("%v: the trace\n%v\nis to be\n%v", g, w.Trace(), want.Trace)
 	}
-	if !same(a, answers) || w.Stuck() != stuck {
-		t.Fatalf("%v: answers %v, stuck %v, are to be %v, %v", g, a, w.Stuck(), answers, stuck)
+	if !trial.Same(a, want.Answers) || w.Stuck() != want.Stuck {
+		t.Fatalf("%v: answers %v, stuck %v, are to be %v, %v", g, a, w.Stuck(), want.Answers, want.Stuck)
 	}
 	return w, a
 }
 
-// source is a row of numbers that looks like no rule, the same each time.
-type source uint64
-
-func (s *source) below(n int) int {
-	*s = *s*6364136223846793005 + 1442695040888963407
-	return int(uint64(*s)>>33) % n
-}
-
-// one picks one of those.
-func (s *source) one(l ...int) int { return l[s.below(len(l))] }
+// source makes games.
+type source struct{ trial.Row }
 
 func (s *source) number() int {
-	return s.one(0, 0, 0, 1, 1, 2, 3, -1, -2, 7, math.MaxInt, math.MinInt)
+	return s.One(0, 0, 0, 1, 1, 2, 3, -1, -2, 7, math.MaxInt, math.MinInt)
 }
 
 // game is one with these Ops, in which many calls meet.
 func (s *source) game(ops ...int) game {
 	var g game
-	for range 1 + s.below(3) {
+	for range 1 + s.Below(3) {
 		g.values = append(g.values, s.number())
 	}
-	for range s.below(30) {
-		g.schedule = append(g.schedule, s.one(0, 1, 2, 3, 4, 5, 6, 7, 8, 100, -1, -2, -3, -100, math.MaxInt, math.MinInt))
-	}
-	for range 1 + s.below(s.one(2, 3, 4, api.MaxThreads)) {
+	g.schedule = s.Schedule(30)
+	for range 1 + s.Below(s.One(2, 3, 4, api.MaxThreads)) {
 		var calls []api.Call
-		for range s.below(6) {
-			calls = append(calls, api.Call{Op: s.one(ops...), A: s.one(0, 0, 1, 2, 5, -1, -2, -7, math.MaxInt, math.MinInt), B: s.number(), C: s.number()})
+		for range s.Below(6) {
+			calls = append(calls, api.Call{Op: s.One(ops...), A: s.One(0, 0, 1, 2, 5, -1, -2, -7, math.MaxInt, math.MinInt), B: s.number(), C: s.number()})
 		}
 		g.scripts = append(g.scripts, calls)
 	}
@@ -223,7 +199,7 @@ func TestStepsOfPlay(t *testing.T) {
 	for i, s := range steps {
 		w, a := game{values: []int{s.stood}, scripts: [][]api.Call{script(s.op, 0, s.b, s.c)}}.holds(t)
 		want := []api.Step{begin(0, 0), step(0, 0, s.op, s.stood, s.stands), end(0, 0, api.OK)}
-		if !slices.Equal(w.Trace(), want) || !same(a, [][]api.Answer{values(s.answer)}) {
+		if !slices.Equal(w.Trace(), want) || !trial.Same(a, [][]api.Answer{values(s.answer)}) {
 			t.Errorf("%d %s: %v %v", i, s.name, w.Trace(), a)
 		}
 	}
@@ -300,7 +276,7 @@ func TestUntilWaits(t *testing.T) {
 		{game{nil, []int{0}, [][]api.Call{until}}, []api.Step{step(0, 0, 1, 0, 0), step(-1, -1, 7, 0, 0)}},
 	} {
 		w, _ := x.g.holds(t)
-		got := slices.DeleteFunc(w.Trace(), func(s api.Step) bool { return s.Op == api.StepBegin || s.Op == api.StepEnd })
+		got := trial.Bare(w.Trace())
 		if !slices.Equal(got, x.want) {
 			t.Errorf("%d: %v", i, got)
 		}
@@ -359,7 +335,7 @@ func TestExamples(t *testing.T) {
 			[][]api.Answer{{{Code: api.ErrArg}}}},
 	} {
 		w, a := x.g.holds(t)
-		if !slices.Equal(w.Trace(), x.trace) || !same(a, x.want) {
+		if !slices.Equal(w.Trace(), x.trace) || !trial.Same(a, x.want) {
 			t.Errorf("%d: %v %v", i, w.Trace(), a)
 		}
 	}
@@ -367,10 +343,10 @@ func TestExamples(t *testing.T) {
 
 // many games, under many schedules, against the model
 func TestPlay(t *testing.T) {
-	s := source(1)
+	s := source{1}
 	stuck, woken := 0, 0
 	for range 6000 {
-		g := s.game(1, 2, 3, 4, 5, 5, 6, 6, 6, s.one(0, 1, 7, -1))
+		g := s.game(1, 2, 3, 4, 5, 5, 6, 6, 6, s.One(0, 1, 7, -1))
 		w, _ := g.holds(t)
 		if w.Stuck() {
 			stuck++
@@ -391,12 +367,7 @@ func TestAllSchedules(t *testing.T) {
 		{script(6, 0, 0, 0, 2, 0, 0, 0), script(5, 0, 1, 0, 6, 0, 1, 0)},
 		{script(6, 0, 0, 0, 2, 1, 4, 0), script(2, 0, 2, 0, 6, 1, 0, 0), script(1, 0, 0, 0, 5, 1, -4, 0)},
 	} {
-		for n := range 729 {
-			schedule := make([]int, 6)
-			for i := range schedule {
-				schedule[i] = n%3 - 1
-				n /= 3
-			}
+		for schedule := range (game{nil, []int{0, 0}, scripts}).model().Schedules {
 			game{schedule, []int{0, 0}, scripts}.holds(t)
 		}
 	}
@@ -436,7 +407,7 @@ func TestNoSuchOp(t *testing.T) {
 	for _, op := range []int{0, 7, 9, -1, -6, 257, 1<<32 + 1, math.MaxInt, math.MinInt} {
 		w, a := game{values: []int{5}, scripts: [][]api.Call{script(op, 0, 1, 1, 1, 0, 0, 0), script(op, 0, 1, 1)}}.holds(t)
 		want := []api.Step{begin(0, 0), end(0, 0, api.ErrArg), begin(0, 1), begin(1, 0), end(1, 0, api.ErrArg), step(0, 0, api.StepLoad, 5, 5), end(0, 1, 0)}
-		if !slices.Equal(w.Trace(), want) || !same(a, [][]api.Answer{{{Code: api.ErrArg}, {Value: 5}}, {{Code: api.ErrArg}}}) {
+		if !slices.Equal(w.Trace(), want) || !trial.Same(a, [][]api.Answer{{{Code: api.ErrArg}, {Value: 5}}, {{Code: api.ErrArg}}}) {
 			t.Error(op, w.Trace(), a)
 		}
 	}
@@ -447,7 +418,7 @@ func TestBehindStuck(t *testing.T) {
 	w, a := game{values: []int{0}, scripts: [][]api.Call{script(6, 0, 0, 0, 2, 0, 1, 0, 9, 0, 0, 0, 6, 0, 7, 0)}}.holds(t)
 	want := []api.Step{begin(0, 0), step(0, 0, api.StepLoad, 0, 0), step(-1, -1, api.StepStuck, 0, 0), end(0, 0, api.ErrStuck)}
 	stuck := api.Answer{Code: api.ErrStuck}
-	if !slices.Equal(w.Trace(), want) || !same(a, [][]api.Answer{{stuck, stuck, stuck, stuck}}) {
+	if !slices.Equal(w.Trace(), want) || !trial.Same(a, [][]api.Answer{{stuck, stuck, stuck, stuck}}) {
 		t.Error(w.Trace(), a)
 	}
 }
@@ -476,7 +447,7 @@ func TestNoCalls(t *testing.T) {
 		t.Error(w.Trace(), a)
 	}
 	_, a = game{values: []int{0}, scripts: [][]api.Call{{}, script(5, 0, 4, 0), nil}}.holds(t)
-	if !same(a, [][]api.Answer{{}, values(4), {}}) {
+	if !trial.Same(a, [][]api.Answer{{}, values(4), {}}) {
 		t.Error(a)
 	}
 }
@@ -487,7 +458,7 @@ func TestCellsBehindOthers(t *testing.T) {
 	cell.New(w, 77)
 	a, e := cell.Play(w, []int{5, 6}, [][]api.Call{script(1, 1, 0, 0, 1, 0, 0, 0)})
 	want := []api.Step{begin(0, 0), step(0, 2, api.StepLoad, 6, 6), end(0, 0, 0), begin(0, 1), step(0, 1, api.StepLoad, 5, 5), end(0, 1, 0)}
-	if e != api.OK || !same(a, [][]api.Answer{values(6, 5)}) || !slices.Equal(w.Trace(), want) {
+	if e != api.OK || !trial.Same(a, [][]api.Answer{values(6, 5)}) || !slices.Equal(w.Trace(), want) {
 		t.Error(a, e, w.Trace())
 	}
 }
@@ -543,19 +514,14 @@ func TestRefused(t *testing.T) {
 
 // P2.5
 
-// roomy is a list with spare room, in which something stands.
-func roomy[T any](mark T, l ...T) []T {
-	return append(slices.Clone(l), mark, mark)[:len(l)]
-}
-
 func TestHandedInStays(t *testing.T) {
 	mark := api.Call{Op: 2, B: 99}
 	list := []int{3, 4}
 	calls := script(3, 0, 8, 0, 5, 1, 1, 0)
-	values := roomy(-7, list...)
-	first, second := roomy(mark, calls...), roomy(mark, calls...)
-	scripts := roomy([]api.Call{mark}, first, second)
-	schedule := roomy(5, 1, 0)
+	values := trial.Roomy(-7, list...)
+	first, second := trial.Roomy(mark, calls...), trial.Roomy(mark, calls...)
+	scripts := trial.Roomy([]api.Call{mark}, first, second)
+	schedule := trial.Roomy(5, 1, 0)
 	w := turn.New(schedule)
 	a, e := cell.Play(w, values, scripts)
 	if e != api.OK {
@@ -579,7 +545,7 @@ func TestHandedInStays(t *testing.T) {
 	clear(first)
 	clear(second)
 	clear(scripts)
-	if !same(a, want) || !slices.Equal(w.Trace(), trace) {
+	if !trial.Same(a, want) || !slices.Equal(w.Trace(), trace) {
 		t.Error("what was answered hangs on what was handed in")
 	}
 }
@@ -588,28 +554,15 @@ func TestAnsweredIsNew(t *testing.T) {
 	calls := script(1, 0, 0, 0, 1, 1, 0, 0)
 	scripts := [][]api.Call{calls, calls, calls[:1], nil, calls}
 	_, a := game{values: []int{3, 4}, scripts: scripts}.holds(t)
-	for i := range a {
-		want := [][]api.Answer{}
-		for _, l := range a {
-			want = append(want, slices.Clone(l))
-		}
-		spoilt := a[i][:cap(a[i])]
-		for j := range spoilt {
-			spoilt[j].Value = 100 + i
-		}
-		for j := range want[i] {
-			want[i][j].Value = 100 + i
-		}
-		if !same(a, want) {
-			t.Fatalf("the list %d shares memory: %v", i, a)
-		}
+	if trial.Shares(a) {
+		t.Error("two lists share memory")
 	}
 }
 
 // P2.6
 
 func TestRow(t *testing.T) {
-	s := source(2)
+	s := source{2}
 	for range 1500 {
 		g := s.game(1, 2, 3, 4, 4, 5, 6)
 		w, _ := g.plays(t)
@@ -630,7 +583,7 @@ func TestRow(t *testing.T) {
 }
 
 func TestFailedCasChangesNothing(t *testing.T) {
-	s := source(3)
+	s := source{3}
 	failed := 0
 	for range 1500 {
 		g := s.game(1, 4, 4, 4, 5)
@@ -662,7 +615,7 @@ func TestFailedCasChangesNothing(t *testing.T) {
 // P2.7
 
 func TestNothingIsLost(t *testing.T) {
-	s := source(4)
+	s := source{4}
 	for range 1500 {
 		g := s.game(5)
 		sum := slices.Clone(g.values)

@@ -1,0 +1,84 @@
+package trial
+
+import (
+	"math"
+	"slices"
+
+	"butler/api"
+)
+
+// Step is one of a thread.
+func Step(thread, cell, op, before, after int) api.Step {
+	return api.Step{Thread: thread, Cell: cell, Op: op, Old: before, New: after}
+}
+
+// Begin is the note that the call i begins.
+func Begin(thread, i int) api.Step { return Step(thread, -1, api.StepBegin, i, 0) }
+
+// End is the note that the call i ends.
+func End(thread, i int, code api.Errno) api.Step {
+	return Step(thread, -1, api.StepEnd, i, int(code))
+}
+
+// Bare is a trace without its notes of calls.
+func Bare(trace []api.Step) []api.Step {
+	return slices.DeleteFunc(slices.Clone(trace), func(s api.Step) bool { return s.Op == api.StepBegin || s.Op == api.StepEnd })
+}
+
+// Values are answers without an error.
+func Values(l ...int) []api.Answer {
+	out := make([]api.Answer, len(l))
+	for i, v := range l {
+		out[i].Value = v
+	}
+	return out
+}
+
+// Same tells whether all threads were answered alike.
+func Same(a, b [][]api.Answer) bool {
+	return slices.EqualFunc(a, b, slices.Equal[[]api.Answer])
+}
+
+// Roomy is a list with spare room, in which something stands.
+func Roomy[T any](mark T, l ...T) []T {
+	return append(slices.Clone(l), mark, mark)[:len(l)]
+}
+
+// Shares tells whether two of these lists share memory, spare room too. It writes them over to see.
+func Shares(a [][]api.Answer) bool {
+	for i, l := range a {
+		room := l[:cap(l)]
+		for j := range room {
+			room[j] = api.Answer{Value: i}
+		}
+	}
+	for i, l := range a {
+		for _, x := range l[:cap(l)] {
+			if x.Value != i {
+				return true
+			}
+		}
+	}
+	return false
+}
+
+// Row is a row of numbers that looks like no rule, the same each time.
+type Row uint64
+
+// Below is a number from 0 to one below n.
+func (r *Row) Below(n int) int {
+	*r = *r*6364136223846793005 + 1442695040888963407
+	return int(uint64(*r)>>33) % n
+}
+
+// One picks one of those.
+func (r *Row) One(l ...int) int { return l[r.Below(len(l))] }
+
+// Schedule is one of fewer numbers than most, of all kinds.
+func (r *Row) Schedule(most int) []int {
+	out := make([]int, r.Below(most))
+	for i := range out {
+		out[i] = r.One(0, 1, 2, 3, 4, 5, 6, 7, 8, 100, -1, -2, -3, -100, math.MaxInt, math.MinInt)
+	}
+	return out
+}

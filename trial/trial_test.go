@@ -1,0 +1,135 @@
+package trial_test
+
+import (
+	"math"
+	"slices"
+	"testing"
+
+	"butler/api"
+	"butler/trial"
+)
+
+// counts lets a call of Op 1 add to the cell A, of Op 2 wait there till something else than 0 stands there, and answer it.
+func counts(c api.Call) trial.Next {
+	switch c.Op {
+	case 1:
+		return trial.Add(c.A, 1, func(sum int) trial.Next { return trial.Over(api.OK, sum) })
+	case 2:
+		return trial.Load(c.A, func(v int) trial.Next {
+			if v != 0 {
+				return trial.Over(api.OK, v)
+			}
+			return trial.Await(c.A, func(changed bool) trial.Next {
+				if !changed {
+					return trial.Over(api.ErrStuck, 0)
+				}
+				return counts(c)
+			})
+		})
+	}
+	return trial.Over(api.ErrArg, 0)
+}
+
+func calls(op, a, many int) []api.Call { return slices.Repeat([]api.Call{{Op: op, A: a}}, many) }
+
+// by hand: who is ready, who is picked, who wakes
+func TestPlay(t *testing.T) {
+	g := trial.Game{Cells: []int{0, 5}, Scripts: [][]api.Call{calls(2, 0, 1), calls(1, 1, 2), calls(9, 0, 1), calls(1, 0, 1)}, Call: counts}
+	before := []api.Step{trial.Begin(0, 0), trial.Begin(1, 0), trial.Begin(2, 0), trial.End(2, 0, api.ErrArg), trial.Begin(3, 0)}
+	for i, x := range []struct {
+		schedule []int
+		behind   []api.Step
+	}{
+		{nil, []api.Step{
+			trial.Step(0, 0, api.StepLoad, 0, 0),
+			trial.Step(1, 1, api.StepAdd, 5, 6), trial.End(1, 0, 0), trial.Begin(1, 1),
+			trial.Step(3, 0, api.StepAdd, 0, 1), trial.End(3, 0, 0),
+			trial.Step(0, 0, api.StepWake, 0, 0),
+			trial.Step(1, 1, api.StepAdd, 6, 7), trial.End(1, 1, 0),
+			trial.Step(0, 0, api.StepLoad, 1, 1), trial.End(0, 0, 0),
+		}},
+		{[]int{-1, -4, 5, 2}, []api.Step{
+			trial.Step(3, 0, api.StepAdd, 0, 1), trial.End(3, 0, 0),
+			trial.Step(0, 0, api.StepLoad, 1, 1), trial.End(0, 0, 0),
+			trial.Step(1, 1, api.StepAdd, 5, 6), trial.End(1, 0, 0), trial.Begin(1, 1),
+			trial.Step(1, 1, api.StepAdd, 6, 7), trial.End(1, 1, 0),
+		}},
+	} {
+		told := g.Play(x.schedule)
+		if !slices.Equal(told.Trace, slices.Concat(before, x.behind)) || told.Stuck {
+			t.Errorf("%d: %v, stuck %v", i, told.Trace, told.Stuck)
+		}
+		if !trial.Same(told.Answers, [][]api.Answer{trial.Values(1), trial.Values(6, 7), {{Code: api.ErrArg}}, trial.Values(1)}) {
+			t.Errorf("%d: %v", i, told.Answers)
+		}
+	}
+	if !slices.Equal(g.Cells, []int{0, 5}) {
+		t.Error(g.Cells)
+	}
+}
+
+func TestStuck(t *testing.T) {
+	told := trial.Game{Cells: []int{0}, Scripts: [][]api.Call{calls(2, 0, 3)}, Call: counts}.Play(nil)
+	want := []api.Step{trial.Begin(0, 0), trial.Step(0, 0, api.StepLoad, 0, 0), trial.Step(-1, -1, api.StepStuck, 0, 0), trial.End(0, 0, api.ErrStuck)}
+	stuck := api.Answer{Code: api.ErrStuck}
+	if !slices.Equal(told.Trace, want) || !told.Stuck || !trial.Same(told.Answers, [][]api.Answer{{stuck, stuck, stuck}}) {
+		t.Error(told)
+	}
+}
+
+// so many orders are there of threads with so many steps that wait for nothing
+func TestSchedules(t *testing.T) {
+	for _, x := range []struct {
+		steps []int
+		want  int
+	}{{[]int{0}, 1}, {[]int{4}, 1}, {[]int{1, 1}, 2}, {[]int{3, 2}, 10}, {[]int{4, 4}, 70}, {[]int{2, 2, 2}, 90}} {
+		g := trial.Game{Cells: []int{0}, Call: counts}
+		for _, many := range x.steps {
+			g.Scripts = append(g.Scripts, calls(1, 0, many))
+		}
+		var traces [][]api.Step
+		for schedule := range g.Schedules {
+			traces = append(traces, g.Play(schedule).Trace)
+		}
+		slices.SortFunc(traces, func(a, b []api.Step) int {
+			return slices.CompareFunc(a, b, func(x, y api.Step) int { return x.Thread - y.Thread })
+		})
+		many := len(traces)
+		if apart := len(slices.CompactFunc(traces, slices.Equal[[]api.Step])); many != x.want || apart != x.want {
+			t.Errorf("%v: %d schedules, %d orders", x.steps, many, apart)
+		}
+	}
+}
+
+func TestShares(t *testing.T) {
+	l := trial.Values(1, 2, 3, 4)
+	for i, x := range []struct {
+		a    [][]api.Answer
+		want bool
+	}{
+		{nil, false}, {[][]api.Answer{l}, false}, {[][]api.Answer{nil, l, {}}, false}, {[][]api.Answer{l, trial.Values(1, 2, 3, 4)}, false},
+		{[][]api.Answer{l[:2:2], l[2:]}, false},
+		{[][]api.Answer{l, l}, true}, {[][]api.Answer{l[:2], l[2:]}, true}, {[][]api.Answer{l[3:], {}, l[:1]}, true},
+	} {
+		if got := trial.Shares(x.a); got != x.want {
+			t.Errorf("%d: %v", i, got)
+		}
+	}
+}
+
+func TestRow(t *testing.T) {
+	r, again := trial.Row(7), trial.Row(7)
+	var below0, above, long bool
+	for range 300 {
+		l := r.Schedule(9)
+		if !slices.Equal(l, again.Schedule(9)) {
+			t.Fatal("another row")
+		}
+		below0 = below0 || slices.Contains(l, math.MinInt)
+		above = above || slices.Contains(l, math.MaxInt)
+		long = long || len(l) == 8
+	}
+	if !below0 || !above || !long {
+		t.Error(below0, above, long)
+	}
+}
