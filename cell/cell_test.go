@@ -35,6 +35,13 @@ type game struct {
 	scripts          [][]api.Call
 }
 
+// player is Play of cells with these values.
+func player(values []int) trial.Player {
+	return func(w *turn.World, scripts [][]api.Call) ([][]api.Answer, api.Errno) {
+		return cell.Play(w, values, scripts)
+	}
+}
+
 // plays carries a game out where it may not fail.
 func (g game) plays(t *testing.T) (*turn.World, [][]api.Answer) {
 	t.Helper()
@@ -50,12 +57,9 @@ func (g game) plays(t *testing.T) (*turn.World, [][]api.Answer) {
 func (g game) holds(t *testing.T) (*turn.World, [][]api.Answer) {
 	t.Helper()
 	w, a := g.plays(t)
-	want := g.model().Play(g.schedule)
-	if !slices.Equal(w.Trace(), want.Trace) {
-		t.Fatalf("%v: the trace\n%v\nis to be\n%v", g, w.Trace(), want.Trace)
-	}
-	if !trial.Same(a, want.Answers) || w.Stuck() != want.Stuck {
-		t.Fatalf("%v: answers %v, stuck %v, are to be %v, %v", g, a, w.Stuck(), want.Answers, want.Stuck)
+	got, want := trial.Told{Trace: w.Trace(), Answers: a, Stuck: w.Stuck()}, g.model().Play(g.schedule)
+	if !got.Same(want) {
+		t.Fatalf("%v:\n%v\nis to be\n%v", g, got, want)
 	}
 	return w, a
 }
@@ -404,7 +408,7 @@ func TestNotLookedAt(t *testing.T) {
 
 // an Op that there is not is told, and the script goes on
 func TestNoSuchOp(t *testing.T) {
-	for _, op := range []int{0, 7, 9, -1, -6, 257, 1<<32 + 1, math.MaxInt, math.MinInt} {
+	for _, op := range trial.Strange(6) {
 		w, a := game{values: []int{5}, scripts: [][]api.Call{script(op, 0, 1, 1, 1, 0, 0, 0), script(op, 0, 1, 1)}}.holds(t)
 		want := []api.Step{begin(0, 0), end(0, 0, api.ErrArg), begin(0, 1), begin(1, 0), end(1, 0, api.ErrArg), step(0, 0, api.StepLoad, 5, 5), end(0, 1, 0)}
 		if !slices.Equal(w.Trace(), want) || !trial.Same(a, [][]api.Answer{{{Code: api.ErrArg}, {Value: 5}}, {{Code: api.ErrArg}}}) {
@@ -464,98 +468,28 @@ func TestCellsBehindOthers(t *testing.T) {
 }
 
 func TestRefused(t *testing.T) {
-	ran := turn.New(nil)
-	ran.Run([]func(*turn.Thread){func(*turn.Thread) {}})
-	none := func() *turn.World { return nil }
-	fresh := func() *turn.World { return turn.New(nil) }
-	over := func() *turn.World { return ran }
-	fine, long := script(1, 0, 0, 0), make([]api.Call, api.MaxCalls+1)
-	nine := slices.Repeat([][]api.Call{fine}, api.MaxThreads+1)
-	for i, x := range []struct {
-		world   func() *turn.World
-		values  []int
-		scripts [][]api.Call
-		want    api.Errno
-	}{
-		{fresh, nil, [][]api.Call{fine}, api.ErrArg},
-		{fresh, []int{}, [][]api.Call{fine}, api.ErrArg},
-		{fresh, []int{1}, nil, api.ErrArg},
-		{fresh, []int{1}, [][]api.Call{}, api.ErrArg},
-		{fresh, nil, nil, api.ErrArg},
-		{fresh, []int{1}, nine, api.ErrArg},
-		{none, []int{1}, [][]api.Call{fine}, api.ErrArg},
-		{over, []int{1}, [][]api.Call{fine}, api.ErrArg},
-		{fresh, []int{1}, [][]api.Call{long}, api.ErrLong},
-		{fresh, []int{1}, [][]api.Call{fine, nil, long}, api.ErrLong},
-		{fresh, []int{1}, [][]api.Call{slices.Repeat(fine, 1000)}, api.ErrLong},
-		{fresh, []int{1}, append(slices.Clone(nine), long), api.ErrLong},
-		{fresh, nil, [][]api.Call{long}, api.ErrLong},
-		{none, nil, [][]api.Call{long}, api.ErrLong},
-		{over, nil, append(slices.Clone(nine), long), api.ErrLong},
-	} {
-		w := x.world()
-		before := len(w.Trace())
-		a, e := cell.Play(w, x.values, x.scripts)
-		if e != x.want || len(a) != 0 {
-			t.Errorf("%d: %v, error %d", i, a, e)
-		}
-		if len(w.Trace()) != before || w != ran && w.Ran() {
-			t.Errorf("%d: something has run", i)
+	for _, values := range [][]int{{1}, {4, 5, 6}} {
+		if err := player(values).Refuses(script(1, 0, 0, 0)); err != nil {
+			t.Error(values, err)
 		}
 	}
-	w := fresh()
-	if _, e := cell.Play(w, []int{1}, [][]api.Call{fine}); e != api.OK {
-		t.Error(e)
-	}
-	if a, e := cell.Play(w, []int{1}, [][]api.Call{fine}); e != api.ErrArg || len(a) != 0 {
-		t.Error("the second Play of a world", a, e)
+	for _, values := range [][]int{nil, {}} {
+		if err := player(values).RefusesAll(script(1, 0, 0, 0)); err != nil {
+			t.Error(values, err)
+		}
 	}
 }
 
 // P2.5
 
-func TestHandedInStays(t *testing.T) {
-	mark := api.Call{Op: 2, B: 99}
+func TestMemory(t *testing.T) {
 	list := []int{3, 4}
-	calls := script(3, 0, 8, 0, 5, 1, 1, 0)
 	values := trial.Roomy(-7, list...)
-	first, second := trial.Roomy(mark, calls...), trial.Roomy(mark, calls...)
-	scripts := trial.Roomy([]api.Call{mark}, first, second)
-	schedule := trial.Roomy(5, 1, 0)
-	w := turn.New(schedule)
-	a, e := cell.Play(w, values, scripts)
-	if e != api.OK {
-		t.Fatal(e)
+	if err := player(values).Keeps(script(3, 0, 8, 0, 5, 1, 1, 0)); err != nil {
+		t.Error(err)
 	}
 	if !slices.Equal(values[:4], append(slices.Clone(list), -7, -7)) {
 		t.Error(values[:4])
-	}
-	for _, s := range [][]api.Call{first, second} {
-		if !slices.Equal(s[:4], append(slices.Clone(calls), mark, mark)) {
-			t.Error(s[:4])
-		}
-	}
-	for i, s := range scripts[:4] {
-		if i < 2 && &s[0] != &[][]api.Call{first, second}[i][0] || i >= 2 && !slices.Equal(s, []api.Call{mark}) {
-			t.Error(i, s)
-		}
-	}
-	want, trace := [][]api.Answer{slices.Clone(a[0]), slices.Clone(a[1])}, w.Trace()
-	clear(values)
-	clear(first)
-	clear(second)
-	clear(scripts)
-	if !trial.Same(a, want) || !slices.Equal(w.Trace(), trace) {
-		t.Error("what was answered hangs on what was handed in")
-	}
-}
-
-func TestAnsweredIsNew(t *testing.T) {
-	calls := script(1, 0, 0, 0, 1, 1, 0, 0)
-	scripts := [][]api.Call{calls, calls, calls[:1], nil, calls}
-	_, a := game{values: []int{3, 4}, scripts: scripts}.holds(t)
-	if trial.Shares(a) {
-		t.Error("two lists share memory")
 	}
 }
 

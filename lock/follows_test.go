@@ -10,17 +10,14 @@ import (
 	"butler/history"
 	"butler/lock"
 	"butler/trial"
-	"butler/turn"
 )
 
 // What follows is read off the traces alone, without the model.
 
-// played is a Play, and what its trace tells.
+// played is a Play of these scripts.
 type played struct {
+	trial.Told
 	scripts [][]api.Call
-	trace   []api.Step
-	answers [][]api.Answer
-	stuck   bool
 }
 
 // ticket is who drew one, and by which of its calls.
@@ -30,7 +27,7 @@ type ticket struct{ thread, call int }
 func (p played) tickets() []ticket {
 	var out []ticket
 	begun := make([]int, len(p.scripts))
-	for _, s := range p.trace {
+	for _, s := range p.Trace {
 		switch {
 		case s.Op == api.StepBegin:
 			begun[s.Thread]++
@@ -47,7 +44,7 @@ func (p played) oneAtATime() error {
 	for i := range drawn {
 		drawn[i] = -1
 	}
-	for i, s := range trial.Bare(p.trace) {
+	for i, s := range trial.Bare(p.Trace) {
 		if s.Op == api.StepStuck {
 			continue
 		}
@@ -77,7 +74,7 @@ func (p played) inOrder() error {
 	for _, x := range p.tickets() {
 		want = append(want, step(x.thread, sum, api.StepLoad, 0, 0), step(x.thread, sum, api.StepStore, 0, 0))
 	}
-	for _, s := range p.trace {
+	for _, s := range p.Trace {
 		if s.Cell == sum {
 			got = append(got, step(s.Thread, sum, s.Op, 0, 0))
 		}
@@ -90,18 +87,18 @@ func (p played) inOrder() error {
 
 // nothingLost is P4.5: nobody is stuck; ticket by ticket each is told the sum of the As ahead; X ends as the sum of all; and who drew none was refused.
 func (p played) nothingLost() error {
-	if p.stuck {
+	if p.Stuck {
 		return errors.New("stuck")
 	}
 	total, drawn := 0, p.tickets()
 	for _, x := range drawn {
-		if p.answers[x.thread][x.call] != (api.Answer{Value: total}) {
+		if p.Answers[x.thread][x.call] != (api.Answer{Value: total}) {
 			return errors.New("at the sum " + strconv.Itoa(total) + " another answer")
 		}
 		total += p.scripts[x.thread][x.call].A
 	}
 	stands := 0
-	for _, s := range p.trace {
+	for _, s := range p.Trace {
 		if s.Cell == sum {
 			stands = s.New
 		}
@@ -114,7 +111,7 @@ func (p played) nothingLost() error {
 			if slices.Contains(drawn, ticket{thread, i}) || c.Op != 1 && c.Op != 2 {
 				continue
 			}
-			if c.Op == 1 || p.answers[thread][i] != (api.Answer{Value: -1}) {
+			if c.Op == 1 || p.Answers[thread][i] != (api.Answer{Value: -1}) {
 				return errors.New("a call without a ticket")
 			}
 		}
@@ -127,15 +124,14 @@ func at(i int, text string) error { return errors.New("the step " + strconv.Itoa
 // follows plays, and asks for all that follows.
 func follows(t *testing.T, schedule []int, scripts [][]api.Call) played {
 	t.Helper()
-	w := turn.New(schedule)
-	a, e := lock.Play(w, scripts)
+	told, e := trial.Player(lock.Play).Tell(schedule, scripts)
 	if e != api.OK {
 		t.Fatal(schedule, scripts, e)
 	}
-	p := played{scripts, w.Trace(), a, w.Stuck()}
+	p := played{told, scripts}
 	for i, err := range []error{p.oneAtATime(), p.inOrder(), p.nothingLost()} {
 		if err != nil {
-			t.Fatalf("P4.%d: %v of %v: %v: %v, %v", 3+i, schedule, scripts, err, p.trace, a)
+			t.Fatalf("P4.%d: %v of %v: %v: %v", 3+i, schedule, scripts, err, told)
 		}
 	}
 	return p
@@ -146,12 +142,8 @@ func TestFollows(t *testing.T) {
 	refused, tried := 0, 0
 	for range 3000 {
 		p := follows(t, r.Schedule(80), scripts(&r, r.One(2, 3, api.MaxThreads), 6, 1, 1, 2, 2, r.One(1, 2, 3)))
-		for _, s := range p.trace {
-			if s.Op == api.StepCas {
-				refused += number(s.Old == s.New)
-				tried += number(s.Old != s.New)
-			}
-		}
+		refused += p.Count(trial.Fails)
+		tried += p.Count(trial.Does)
 	}
 	if refused < 1000 || tried < 1000 {
 		t.Errorf("the Plays are too tame: %d tries in vain, %d others", refused, tried)
@@ -194,7 +186,7 @@ func TestLinear(t *testing.T) {
 	for range 1500 {
 		calls := scripts(&r, 4, 3, 1, 1, 2)
 		p := follows(t, r.Schedule(50), calls)
-		l, e := history.Of(calls, p.answers, p.trace)
+		l, e := history.Of(calls, p.Answers, p.Trace)
 		if e != api.OK {
 			t.Fatal(e)
 		}

@@ -48,44 +48,40 @@ func ops(l ...int) []api.Call {
 func does(l *lock.Lock, t *turn.Thread, op int) int {
 	switch op {
 	case 1:
-		return number(l.Lock(t))
+		return trial.Number(l.Lock(t))
 	case 2:
-		return number(l.Try(t))
+		return trial.Number(l.Try(t))
 	}
 	l.Unlock(t)
 	return 0
 }
 
 // calls lets threads call a lock, and holds what they did against the model.
-func calls(t *testing.T, schedule []int, scripts [][]api.Call) (*turn.World, [][]api.Answer) {
+func calls(t *testing.T, schedule []int, scripts [][]api.Call) trial.Told {
 	t.Helper()
-	w := turn.New(schedule)
-	l := lock.New(w)
-	a := play.Run(w, scripts, func(x *turn.Thread, c api.Call) api.Answer { return api.Answer{Value: does(l, x, c.Op)} })
-	want := trial.Game{Cells: make([]int, 2), Scripts: scripts, Call: toldCalls}.Play(schedule)
-	isTold(t, schedule, scripts, trial.Told{Trace: w.Trace(), Answers: a, Stuck: w.Stuck()}, want)
-	return w, a
+	got, _ := trial.Player(func(w *turn.World, scripts [][]api.Call) ([][]api.Answer, api.Errno) {
+		l := lock.New(w)
+		return play.Run(w, scripts, func(x *turn.Thread, c api.Call) api.Answer { return api.Answer{Value: does(l, x, c.Op)} }), api.OK
+	}).Tell(schedule, scripts)
+	isTold(t, schedule, scripts, got, trial.Game{Cells: make([]int, 2), Scripts: scripts, Call: toldCalls}.Play(schedule))
+	return got
 }
 
 // plays carries a Play out that may not fail, and holds it against the model.
-func plays(t *testing.T, schedule []int, scripts [][]api.Call) (*turn.World, [][]api.Answer) {
+func plays(t *testing.T, schedule []int, scripts [][]api.Call) trial.Told {
 	t.Helper()
-	w := turn.New(schedule)
-	a, e := lock.Play(w, scripts)
+	got, e := trial.Player(lock.Play).Tell(schedule, scripts)
 	if e != api.OK {
 		t.Fatalf("%v of %v: error %d", schedule, scripts, e)
 	}
-	isTold(t, schedule, scripts, trial.Told{Trace: w.Trace(), Answers: a, Stuck: w.Stuck()}, model(scripts).Play(schedule))
-	return w, a
+	isTold(t, schedule, scripts, got, model(scripts).Play(schedule))
+	return got
 }
 
 func isTold(t *testing.T, schedule []int, scripts [][]api.Call, got, want trial.Told) {
 	t.Helper()
-	if !slices.Equal(got.Trace, want.Trace) {
-		t.Fatalf("%v of %v: the trace\n%v\nis to be\n%v", schedule, scripts, got.Trace, want.Trace)
-	}
-	if !trial.Same(got.Answers, want.Answers) || got.Stuck != want.Stuck {
-		t.Fatalf("%v of %v: answers %v, stuck %v, are to be %v, %v", schedule, scripts, got.Answers, got.Stuck, want.Answers, want.Stuck)
+	if !got.Same(want) {
+		t.Fatalf("%v of %v:\n%v\nis to be\n%v", schedule, scripts, got, want)
 	}
 }
 
@@ -178,9 +174,9 @@ func TestCalls(t *testing.T) {
 			[]api.Step{add(0, next, 0), load(0, now, 0), add(0, next, 1), load(0, now, 0), add(1, now, 0), add(1, now, 1), wake(0), load(0, now, 2), stuck},
 			[][]api.Answer{trial.Values(1, 0), trial.Values(0, 0)}},
 	} {
-		w, a := calls(t, x.schedule, x.scripts)
-		if got := trial.Bare(w.Trace()); !slices.Equal(got, x.want) || !trial.Same(a, x.answers) {
-			t.Errorf("%s: %v %v", x.name, got, a)
+		told := calls(t, x.schedule, x.scripts)
+		if got := trial.Bare(told.Trace); !slices.Equal(got, x.want) || !trial.Same(told.Answers, x.answers) {
+			t.Errorf("%s: %v %v", x.name, got, told.Answers)
 		}
 	}
 }
@@ -190,10 +186,10 @@ func TestCallsByTurns(t *testing.T) {
 	r := trial.Row(1)
 	stuck, woken, refused := 0, 0, 0
 	for range 4000 {
-		w, _ := calls(t, r.Schedule(40), scripts(&r, r.One(1, 2, 3, api.MaxThreads), 6, 1, 1, 2, 3, 3, 3))
-		stuck += number(w.Stuck())
-		woken += number(slices.ContainsFunc(w.Trace(), func(s api.Step) bool { return s.Op == api.StepWake }))
-		refused += number(slices.ContainsFunc(w.Trace(), func(s api.Step) bool { return s.Op == api.StepCas && s.Old == s.New }))
+		told := calls(t, r.Schedule(40), scripts(&r, r.One(1, 2, 3, api.MaxThreads), 6, 1, 1, 2, 3, 3, 3))
+		stuck += trial.Number(told.Stuck)
+		woken += trial.Number(told.Count(trial.Wakes) > 0)
+		refused += trial.Number(told.Count(trial.Fails) > 0)
 	}
 	if stuck < 100 || woken < 100 || refused < 100 {
 		t.Errorf("the calls are too tame: %d stuck, %d woken, %d refused", stuck, woken, refused)
@@ -239,11 +235,11 @@ func TestFreely(t *testing.T) {
 		if op == 1 && tickets != called || op == 3 && tickets == called {
 			op = 2 // a Lock would wait for ever, and so would all others behind an Unlock of nobody's
 		}
-		want := number(op != 3 && tickets == called)
+		want := trial.Number(op != 3 && tickets == called)
 		if got := does(l, free, op); got != want {
 			t.Fatalf("Op %d with the tickets %d and %d answers %d", op, tickets, called, got)
 		}
-		tickets, called = tickets+want, called+number(op == 3)
+		tickets, called = tickets+want, called+trial.Number(op == 3)
 	}
 }
 
@@ -300,27 +296,27 @@ func TestFreelyTogether(t *testing.T) {
 
 // the chapter's examples
 func TestExamples(t *testing.T) {
-	w, a := plays(t, nil, [][]api.Call{script(1, 5, 2, 7)})
+	told := plays(t, nil, [][]api.Call{script(1, 5, 2, 7)})
 	want := []api.Step{
 		trial.Begin(0, 0), add(0, next, 0), load(0, now, 0), load(0, sum, 0), puts(0, 0, 5), add(0, now, 0), trial.End(0, 0, api.OK),
 		trial.Begin(0, 1), load(0, now, 1), draws(0, 1), load(0, sum, 5), puts(0, 5, 12), add(0, now, 1), trial.End(0, 1, api.OK),
 	}
-	if !slices.Equal(w.Trace(), want) || !trial.Same(a, [][]api.Answer{trial.Values(0, 5)}) {
-		t.Error(w.Trace(), a)
+	if !slices.Equal(told.Trace, want) || !trial.Same(told.Answers, [][]api.Answer{trial.Values(0, 5)}) {
+		t.Error(told)
 	}
-	w, a = plays(t, []int{0, 1, 1}, [][]api.Call{script(1, 1), script(1, 1)})
+	told = plays(t, []int{0, 1, 1}, [][]api.Call{script(1, 1), script(1, 1)})
 	want = []api.Step{
 		trial.Begin(0, 0), trial.Begin(1, 0),
 		add(0, next, 0), add(1, next, 1), load(1, now, 0),
 		load(0, now, 0), load(0, sum, 0), puts(0, 0, 1), add(0, now, 0), trial.End(0, 0, api.OK),
 		wake(1), load(1, now, 1), load(1, sum, 1), puts(1, 1, 2), add(1, now, 1), trial.End(1, 0, api.OK),
 	}
-	if !slices.Equal(w.Trace(), want) || !trial.Same(a, [][]api.Answer{trial.Values(0), trial.Values(1)}) {
-		t.Error(w.Trace(), a)
+	if !slices.Equal(told.Trace, want) || !trial.Same(told.Answers, [][]api.Answer{trial.Values(0), trial.Values(1)}) {
+		t.Error(told)
 	}
-	w, a = plays(t, nil, [][]api.Call{script(3, 0)})
-	if want := []api.Step{trial.Begin(0, 0), trial.End(0, 0, api.ErrArg)}; !slices.Equal(w.Trace(), want) || !trial.Same(a, [][]api.Answer{{{Code: api.ErrArg}}}) {
-		t.Error(w.Trace(), a)
+	told = plays(t, nil, [][]api.Call{script(3, 0)})
+	if want := []api.Step{trial.Begin(0, 0), trial.End(0, 0, api.ErrArg)}; !slices.Equal(told.Trace, want) || !trial.Same(told.Answers, [][]api.Answer{{{Code: api.ErrArg}}}) {
+		t.Error(told)
 	}
 }
 
@@ -340,8 +336,8 @@ func TestTry(t *testing.T) {
 		{"a ticket that is called", []int{0, 1, 1, 0, 0, 0, 0, 1, 1}, [][]api.Call{script(1, 4), script(1, 5), script(2, 3)}, [][]api.Answer{trial.Values(0), trial.Values(4), trial.Values(-1)}},
 		{"another Try", []int{0, 0, 1, 1}, [][]api.Call{script(2, 4), script(2, 3)}, [][]api.Answer{trial.Values(0), trial.Values(-1)}},
 	} {
-		if _, a := plays(t, x.schedule, x.scripts); !trial.Same(a, x.want) {
-			t.Errorf("%s: %v", x.name, a)
+		if told := plays(t, x.schedule, x.scripts); !trial.Same(told.Answers, x.want) {
+			t.Errorf("%s: %v", x.name, told)
 		}
 	}
 }
@@ -351,10 +347,10 @@ func TestPlay(t *testing.T) {
 	r := trial.Row(3)
 	woken, refused, missing := 0, 0, 0
 	for range 4000 {
-		w, a := plays(t, r.Schedule(60), scripts(&r, r.One(1, 2, 3, api.MaxThreads), 5, 1, 1, 2, 2, r.One(0, 1, 2, 3, -1)))
-		woken += number(slices.ContainsFunc(w.Trace(), func(s api.Step) bool { return s.Op == api.StepWake }))
-		refused += number(slices.ContainsFunc(w.Trace(), func(s api.Step) bool { return s.Op == api.StepCas && s.Old == s.New }))
-		missing += number(slices.Contains(slices.Concat(a...), api.Answer{Code: api.ErrArg}))
+		told := plays(t, r.Schedule(60), scripts(&r, r.One(1, 2, 3, api.MaxThreads), 5, 1, 1, 2, 2, r.One(0, 1, 2, 3, -1)))
+		woken += trial.Number(told.Count(trial.Wakes) > 0)
+		refused += trial.Number(told.Count(trial.Fails) > 0)
+		missing += trial.Number(slices.Contains(slices.Concat(told.Answers...), api.Answer{Code: api.ErrArg}))
 	}
 	if woken < 100 || refused < 100 || missing < 100 {
 		t.Errorf("the Plays are too tame: %d woken, %d refused, %d of no Op", woken, refused, missing)
@@ -363,40 +359,40 @@ func TestPlay(t *testing.T) {
 
 // sums go round
 func TestWraps(t *testing.T) {
-	_, a := plays(t, nil, [][]api.Call{script(1, math.MaxInt, 2, 1, 1, -1, 1, math.MaxInt, 1, 3, 2, math.MinInt, 1, 0)})
-	if want := trial.Values(0, math.MaxInt, math.MinInt, math.MaxInt, -2, 1, math.MinInt+1); !trial.Same(a, [][]api.Answer{want}) {
-		t.Error(a)
+	told := plays(t, nil, [][]api.Call{script(1, math.MaxInt, 2, 1, 1, -1, 1, math.MaxInt, 1, 3, 2, math.MinInt, 1, 0)})
+	if want := trial.Values(0, math.MaxInt, math.MinInt, math.MaxInt, -2, 1, math.MinInt+1); !trial.Same(told.Answers, [][]api.Answer{want}) {
+		t.Error(told)
 	}
 }
 
 // a sum of -1 is no refusal
 func TestMinusOne(t *testing.T) {
-	w, a := plays(t, nil, [][]api.Call{script(2, -1, 2, 5, 1, -5, 1, 0)})
-	if !trial.Same(a, [][]api.Answer{trial.Values(0, -1, 4, -1)}) || len(trial.Bare(w.Trace())) != 4*5 {
-		t.Error(a)
+	told := plays(t, nil, [][]api.Call{script(2, -1, 2, 5, 1, -5, 1, 0)})
+	if !trial.Same(told.Answers, [][]api.Answer{trial.Values(0, -1, 4, -1)}) || len(trial.Bare(told.Trace)) != 4*5 {
+		t.Error(told)
 	}
 }
 
 // B and C are not looked at; nor is anything of an Op that there is not
 func TestNotLookedAt(t *testing.T) {
 	for _, n := range []int{0, 1, -1, math.MaxInt, math.MinInt} {
-		_, a := plays(t, nil, [][]api.Call{{{Op: 1, A: 6, B: n, C: n}, {Op: 2, A: 7, B: n, C: n}, {Op: 3, A: n, B: n, C: n}, {Op: 2, A: 1, B: n, C: n}}})
-		if want := append(trial.Values(0, 6), api.Answer{Code: api.ErrArg}, api.Answer{Value: 13}); !trial.Same(a, [][]api.Answer{want}) {
-			t.Error(n, a)
+		told := plays(t, nil, [][]api.Call{{{Op: 1, A: 6, B: n, C: n}, {Op: 2, A: 7, B: n, C: n}, {Op: 3, A: n, B: n, C: n}, {Op: 2, A: 1, B: n, C: n}}})
+		if want := append(trial.Values(0, 6), api.Answer{Code: api.ErrArg}, api.Answer{Value: 13}); !trial.Same(told.Answers, [][]api.Answer{want}) {
+			t.Error(n, told)
 		}
 	}
 }
 
 // an Op that there is not is told, and the script goes on
 func TestNoSuchOp(t *testing.T) {
-	for _, op := range []int{0, 3, 4, -1, -2, 257, 258, 1<<32 + 1, 1<<32 + 2, math.MaxInt, math.MinInt} {
-		w, a := plays(t, nil, [][]api.Call{script(op, 1, 1, 5), script(op, 1)})
+	for _, op := range trial.Strange(2) {
+		told := plays(t, nil, [][]api.Call{script(op, 1, 1, 5), script(op, 1)})
 		want := []api.Step{
 			trial.Begin(0, 0), trial.End(0, 0, api.ErrArg), trial.Begin(0, 1), trial.Begin(1, 0), trial.End(1, 0, api.ErrArg),
 			add(0, next, 0), load(0, now, 0), load(0, sum, 0), puts(0, 0, 5), add(0, now, 0), trial.End(0, 1, api.OK),
 		}
-		if !slices.Equal(w.Trace(), want) || !trial.Same(a, [][]api.Answer{{{Code: api.ErrArg}, {}}, {{Code: api.ErrArg}}}) {
-			t.Error(op, w.Trace(), a)
+		if !slices.Equal(told.Trace, want) || !trial.Same(told.Answers, [][]api.Answer{{{Code: api.ErrArg}, {}}, {{Code: api.ErrArg}}}) {
+			t.Error(op, told)
 		}
 	}
 }
@@ -405,9 +401,9 @@ func TestNoSuchOp(t *testing.T) {
 func TestSchedules(t *testing.T) {
 	all := [][]api.Call{script(1, 1, 2, 2), script(2, 3, 1, 4), script(1, 5)}
 	for _, schedule := range [][]int{nil, {}, {2}, {-1}, {-1, -2, -3, -4}, {math.MinInt, math.MaxInt}, slices.Repeat([]int{-1}, 500), slices.Repeat([]int{0, 7, -5}, 200)} {
-		_, a := plays(t, schedule, all)
-		if again, _ := lock.Play(turn.New(schedule), all); !trial.Same(a, again) {
-			t.Error("another time otherwise", schedule, a, again)
+		told := plays(t, schedule, all)
+		if again := plays(t, schedule, all); !again.Same(told) {
+			t.Error("another time otherwise", schedule, told, again)
 		}
 	}
 }
@@ -415,7 +411,7 @@ func TestSchedules(t *testing.T) {
 // at the limits
 func TestGreatest(t *testing.T) {
 	for _, op := range []int{1, 2} {
-		_, a := plays(t, nil, slices.Repeat([][]api.Call{slices.Repeat(script(op, 1), api.MaxCalls)}, api.MaxThreads))
+		a := plays(t, nil, slices.Repeat([][]api.Call{slices.Repeat(script(op, 1), api.MaxCalls)}, api.MaxThreads)).Answers
 		for i, l := range a {
 			if len(l) != api.MaxCalls {
 				t.Errorf("the thread %d has %d answers", i, len(l))
@@ -426,31 +422,35 @@ func TestGreatest(t *testing.T) {
 			t.Errorf("nobody is told %d", last)
 		}
 	}
-	_, a := plays(t, nil, [][]api.Call{slices.Repeat(script(2, 2), api.MaxCalls)})
+	a := plays(t, nil, [][]api.Call{slices.Repeat(script(2, 2), api.MaxCalls)}).Answers
 	if a[0][api.MaxCalls-1].Value != 2*(api.MaxCalls-1) {
 		t.Error(a)
 	}
 }
 
 func TestNoCalls(t *testing.T) {
-	w, a := plays(t, nil, [][]api.Call{nil})
-	if len(w.Trace()) != 0 || len(a) != 1 || len(a[0]) != 0 || !w.Ran() {
-		t.Error(w.Trace(), a)
+	told := plays(t, nil, [][]api.Call{nil})
+	if len(told.Trace) != 0 || len(told.Answers) != 1 || len(told.Answers[0]) != 0 {
+		t.Error(told)
 	}
-	_, a = plays(t, []int{1}, [][]api.Call{{}, script(1, 4), nil})
-	if !trial.Same(a, [][]api.Answer{{}, trial.Values(0), {}}) {
-		t.Error(a)
+	told = plays(t, []int{1}, [][]api.Call{{}, script(1, 4), nil})
+	if !trial.Same(told.Answers, [][]api.Answer{{}, trial.Values(0), {}}) {
+		t.Error(told)
 	}
 	plays(t, nil, make([][]api.Call, api.MaxThreads))
 }
 
-// the cells of a world that has others go on behind these: NEXT, NOW, X
+// the cells of a world that has others go on behind these: NEXT, NOW, which is the one that is awaited, and X
 func TestCellsBehindOthers(t *testing.T) {
-	w := turn.New(nil)
+	w := turn.New([]int{0, 1, 1})
 	cell.New(w, 77)
-	a, e := lock.Play(w, [][]api.Call{script(1, 5)})
-	want := []api.Step{add(0, 1, 0), load(0, 2, 0), load(0, 3, 0), step(0, 3, api.StepStore, 0, 5), add(0, 2, 0)}
-	if e != api.OK || !trial.Same(a, [][]api.Answer{trial.Values(0)}) || !slices.Equal(trial.Bare(w.Trace()), want) {
+	a, e := lock.Play(w, [][]api.Call{script(1, 5), script(1, 6)})
+	want := []api.Step{
+		add(0, 1, 0), add(1, 1, 1), load(1, 2, 0),
+		load(0, 2, 0), load(0, 3, 0), step(0, 3, api.StepStore, 0, 5), add(0, 2, 0),
+		step(1, 2, api.StepWake, 0, 0), load(1, 2, 1), load(1, 3, 5), step(1, 3, api.StepStore, 5, 11), add(1, 2, 1),
+	}
+	if e != api.OK || !trial.Same(a, [][]api.Answer{trial.Values(0), trial.Values(5)}) || !slices.Equal(trial.Bare(w.Trace()), want) {
 		t.Error(a, e, w.Trace())
 	}
 	if behind := w.Cell(); behind != 4 {
@@ -459,74 +459,14 @@ func TestCellsBehindOthers(t *testing.T) {
 }
 
 func TestRefused(t *testing.T) {
-	ran := turn.New(nil)
-	if _, e := lock.Play(ran, [][]api.Call{nil}); e != api.OK {
-		t.Fatal(e)
-	}
-	fresh := turn.New(nil)
-	fine, long := script(1, 1), make([]api.Call, api.MaxCalls+1)
-	nine := slices.Repeat([][]api.Call{fine}, api.MaxThreads+1)
-	for i, x := range []struct {
-		w       *turn.World
-		scripts [][]api.Call
-		want    api.Errno
-	}{
-		{nil, [][]api.Call{fine}, api.ErrArg},
-		{ran, [][]api.Call{fine}, api.ErrArg},
-		{fresh, nil, api.ErrArg},
-		{fresh, [][]api.Call{}, api.ErrArg},
-		{nil, nil, api.ErrArg},
-		{ran, nil, api.ErrArg},
-		{fresh, nine, api.ErrArg},
-		{fresh, make([][]api.Call, api.MaxThreads+1), api.ErrArg},
-		{fresh, [][]api.Call{long}, api.ErrLong},
-		{fresh, [][]api.Call{fine, nil, long}, api.ErrLong},
-		{fresh, append(slices.Clone(nine), long), api.ErrLong},
-		{nil, [][]api.Call{long}, api.ErrLong},
-		{ran, [][]api.Call{fine, long}, api.ErrLong},
-	} {
-		a, e := lock.Play(x.w, x.scripts)
-		if e != x.want || len(a) != 0 {
-			t.Errorf("%d: %v, error %d", i, a, e)
-		}
-		if fresh.Ran() || len(fresh.Trace()) != 0 || len(ran.Trace()) != 0 {
-			t.Fatalf("%d: something has run", i)
-		}
+	if err := trial.Player(lock.Play).Refuses(script(1, 1, 2, 1)); err != nil {
+		t.Error(err)
 	}
 }
 
 // W6
-
-func TestHandedInStays(t *testing.T) {
-	mark, l := api.Call{Op: 2, A: 99}, script(1, 8, 2, 1)
-	first, second := trial.Roomy(mark, l...), trial.Roomy(mark, l...)
-	scripts := trial.Roomy([]api.Call{mark}, first, second)
-	w := turn.New([]int{1, 0})
-	a, e := lock.Play(w, scripts)
-	if e != api.OK {
-		t.Fatal(e)
-	}
-	for _, s := range [][]api.Call{first, second} {
-		if !slices.Equal(s[:4], append(slices.Clone(l), mark, mark)) {
-			t.Error(s[:4])
-		}
-	}
-	if s := scripts[:4]; &s[0][0] != &first[0] || &s[1][0] != &second[0] || !slices.Equal(s[2], []api.Call{mark}) || !slices.Equal(s[3], []api.Call{mark}) {
-		t.Error(s)
-	}
-	want, trace := [][]api.Answer{slices.Clone(a[0]), slices.Clone(a[1])}, w.Trace()
-	clear(first)
-	clear(second)
-	clear(scripts)
-	if !trial.Same(a, want) || !slices.Equal(w.Trace(), trace) {
-		t.Error("what was answered hangs on what was handed in")
-	}
-}
-
-func TestAnsweredIsNew(t *testing.T) {
-	l := script(1, 3, 2, 4)
-	_, a := plays(t, nil, [][]api.Call{l, l, l[:1], nil, l})
-	if trial.Shares(a) {
-		t.Error("two lists share memory")
+func TestMemory(t *testing.T) {
+	if err := trial.Player(lock.Play).Keeps(script(1, 8, 2, 1)); err != nil {
+		t.Error(err)
 	}
 }

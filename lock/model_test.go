@@ -73,7 +73,7 @@ func toldUnlock(then func() trial.Next) trial.Next {
 
 // toldCalls are the lock's own calls: Op 1 Lock, 2 Try, 3 Unlock, in any order, also by who has not the lock. What they answer is a 1 or a 0.
 func toldCalls(c api.Call) trial.Next {
-	tell := func(has bool) trial.Next { return trial.Over(api.OK, number(has)) }
+	tell := func(has bool) trial.Next { return trial.Over(api.OK, trial.Number(has)) }
 	switch c.Op {
 	case 1:
 		return toldLock(tell)
@@ -81,11 +81,4 @@ func toldCalls(c api.Call) trial.Next {
 		return toldTry(tell)
 	}
 	return toldUnlock(func() trial.Next { return tell(false) })
-}
-
-func number(b bool) int {
-	if b {
-		return 1
-	}
-	return 0
 }

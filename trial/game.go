@@ -20,6 +20,20 @@ type Told struct {
 	Stuck   bool
 }
 
+// Same tells whether two Plays told the same.
+func (x Told) Same(y Told) bool {
+	return slices.Equal(x.Trace, y.Trace) && Same(x.Answers, y.Answers) && x.Stuck == y.Stuck
+}
+
+// Count tells how many steps of the trace are of that kind.
+func (x Told) Count(is func(s api.Step) bool) int {
+	many := 0
+	for _, s := range x.Trace {
+		many += Number(is(s))
+	}
+	return many
+}
+
 // Play is what a game tells under a schedule.
 func (g Game) Play(schedule []int) Told {
 	m := g.run(schedule, false)

@@ -25,6 +25,23 @@ func Bare(trace []api.Step) []api.Step {
 	return slices.DeleteFunc(slices.Clone(trace), func(s api.Step) bool { return s.Op == api.StepBegin || s.Op == api.StepEnd })
 }
 
+// Wakes tells whether a step is a thread's going on behind an Await.
+func Wakes(s api.Step) bool { return s.Op == api.StepWake }
+
+// Fails tells whether a step is a Cas that found something else (of a Cas that would have changed the cell).
+func Fails(s api.Step) bool { return s.Op == api.StepCas && s.Old == s.New }
+
+// Does tells whether a step is a Cas that was done.
+func Does(s api.Step) bool { return s.Op == api.StepCas && s.Old != s.New }
+
+// Number is 1 for what is so.
+func Number(so bool) int {
+	if so {
+		return 1
+	}
+	return 0
+}
+
 // Values are answers without an error.
 func Values(l ...int) []api.Answer {
 	out := make([]api.Answer, len(l))
