@@ -96,7 +96,7 @@ func TestFollows(t *testing.T) {
 	r := trial.Row(2)
 	failed, stucks, woken := 0, 0, 0
 	for range 4000 {
-		p := follows(t, r.Schedule(80), r.Below(r.One(2, 4, 12)), scripts(&r, r.One(2, 3, api.MaxThreads), 6, 1, 1, 2, r.One(1, 2, 3)))
+		p := follows(t, r.Schedule(80), r.Below(r.One(2, 4, 12)), r.Scripts(r.One(2, 3, api.MaxThreads), 6, 1, 1, 2, r.One(1, 2, 3)))
 		failed += p.Count(trial.Fails)
 		woken += p.Count(trial.Wakes)
 		stucks += trial.Number(p.Stuck)
@@ -153,7 +153,7 @@ func TestLinear(t *testing.T) {
 	stucks := 0
 	for range 3000 {
 		n := r.Below(5)
-		p := follows(t, r.Schedule(50), n, scripts(&r, 4, 3, 1, 1, 2))
+		p := follows(t, r.Schedule(50), n, r.Scripts(4, 3, 1, 1, 2))
 		l, e := history.Of(p.scripts, p.Answers, p.Trace)
 		if e != api.OK {
 			t.Fatal(e)

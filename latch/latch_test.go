@@ -25,23 +25,7 @@ const (
 	stuck = api.ErrStuck
 )
 
-// ops makes calls of Ops.
-func ops(l ...int) []api.Call {
-	var out []api.Call
-	for _, op := range l {
-		out = append(out, api.Call{Op: op})
-	}
-	return out
-}
-
-// codes makes answers, whose Values are 0, of Codes.
-func codes(l ...api.Errno) []api.Answer {
-	var out []api.Answer
-	for _, e := range l {
-		out = append(out, api.Answer{Code: e})
-	}
-	return out
-}
+var ops, codes = trial.Ops, trial.Codes
 
 // player is Play of a latch that stands at n.
 func player(n int) trial.Player {
@@ -58,17 +42,6 @@ func plays(t *testing.T, schedule []int, n int, scripts [][]api.Call) trial.Told
 		t.Fatalf("%v, %d of %v: error %d,\n%v\nis to be\n%v", schedule, n, scripts, e, got, want)
 	}
 	return got
-}
-
-// scripts are some of these Ops, for at most so many threads; nothing but the Op counts.
-func scripts(r *trial.Row, threads, most int, ops ...int) [][]api.Call {
-	out := make([][]api.Call, 1+r.Below(threads))
-	for i := range out {
-		for range r.Below(most + 1) {
-			out[i] = append(out[i], api.Call{Op: r.One(ops...), A: r.Below(3), B: -r.Below(3), C: r.One(math.MaxInt, math.MinInt, 0)})
-		}
-	}
-	return out
 }
 
 // P5.1
@@ -120,44 +93,36 @@ func TestCalls(t *testing.T) {
 		name     string
 		n        int
 		schedule []int
-		scripts  [][]int
+		scripts  [][]api.Call
 		want     []api.Step
-		answers  [][]api.Errno // of a Wait: stuck, if it is false
+		answers  [][]api.Answer // of a Wait: stuck, if it is false
 	}{
-		{"Down", 1, nil, [][]int{{1}}, []api.Step{load(0, 1), downs(0, 1)}, [][]api.Errno{{0}}},
-		{"Down of more", 5, nil, [][]int{{1, 1}}, []api.Step{load(0, 5), downs(0, 5), load(0, 4), downs(0, 4)}, [][]api.Errno{{0, 0}}},
-		{"Down of 0", 0, nil, [][]int{{1, 1}}, []api.Step{load(0, 0), load(0, 0)}, [][]api.Errno{{low, low}}},
-		{"Down till it is 0", 2, nil, [][]int{{1, 1, 1, 1}}, []api.Step{load(0, 2), downs(0, 2), load(0, 1), downs(0, 1), load(0, 0), load(0, 0)}, [][]api.Errno{{0, 0, low, low}}},
-		{"Wait of 0", 0, nil, [][]int{{2, 2}}, []api.Step{load(0, 0), load(0, 0)}, [][]api.Errno{{0, 0}}},
-		{"Wait behind the last Down", 1, nil, [][]int{{1, 2, 1, 2}}, []api.Step{load(0, 1), downs(0, 1), load(0, 0), load(0, 0), load(0, 0)}, [][]api.Errno{{0, 0, low, 0}}},
-		{"Wait ahead of the last Down", 1, []int{0, 0, 0, 0, 0}, [][]int{{2}, {1}}, []api.Step{load(0, 1), load(1, 1), downs(1, 1), wakes(0), load(0, 0)}, [][]api.Errno{{0}, {0}}},
-		{"Wait that is woken by each Down", 2, []int{0, 0, 0, 0, 0, 0, 0, 0}, [][]int{{2}, {1, 1}},
-			[]api.Step{load(0, 2), load(1, 2), downs(1, 2), wakes(0), load(0, 1), load(1, 1), downs(1, 1), wakes(0), load(0, 0)}, [][]api.Errno{{0}, {0, 0}}},
-		{"Wait that sleeps through a Down", 2, []int{0, 0, 0, 1, 1, 0}, [][]int{{2}, {1, 1}},
-			[]api.Step{load(0, 2), load(1, 2), downs(1, 2), load(1, 1), downs(1, 1), wakes(0), load(0, 0)}, [][]api.Errno{{0}, {0, 0}}},
-		{"Wait that nobody wakes", 1, nil, [][]int{{2}}, []api.Step{load(0, 1), nobody}, [][]api.Errno{{stuck}}},
-		{"Waits that nobody wakes", 3, nil, [][]int{{2}, {1, 2}}, []api.Step{load(0, 3), load(1, 3), downs(1, 3), wakes(0), load(1, 2), load(0, 2), nobody}, [][]api.Errno{{stuck}, {0, stuck}}},
-		{"Wait in a world that is stuck", 2, nil, [][]int{{2, 2, 1, 2, 1, 2}},
-			[]api.Step{load(0, 2), nobody, load(0, 2), load(0, 2), downs(0, 2), load(0, 1), load(0, 1), downs(0, 1), load(0, 0)}, [][]api.Errno{{stuck, stuck, 0, stuck, 0, 0}}},
-		{"a failed Cas wakes nobody", 3, []int{0, 0, 1, 0, 0, 0, 0, 0, 0, 0, 0}, [][]int{{2}, {1}, {1}},
-			[]api.Step{load(0, 3), load(1, 3), load(2, 3), downs(1, 3), wakes(0), load(0, 2), fails(2, 2), load(2, 2), downs(2, 2), wakes(0), load(0, 1), nobody}, [][]api.Errno{{stuck}, {0}, {0}}},
-		{"Down whose Cas finds another number", 5, []int{0, 1, 1, 0, 0, 0}, [][]int{{1}, {1}}, []api.Step{load(0, 5), load(1, 5), downs(1, 5), fails(0, 4), load(0, 4), downs(0, 4)}, [][]api.Errno{{0}, {0}}},
-		{"Down whose Cas finds 0", 1, []int{0, 1, 1, 0, 0}, [][]int{{1}, {1}}, []api.Step{load(0, 1), load(1, 1), downs(1, 1), fails(0, 0), load(0, 0)}, [][]api.Errno{{low}, {0}}},
-		{"Down that fails twice", 3, []int{0, 1, 1, 0, 0, 1, 1, 0}, [][]int{{1}, {1, 1}},
-			[]api.Step{load(0, 3), load(1, 3), downs(1, 3), fails(0, 2), load(0, 2), load(1, 2), downs(1, 2), fails(0, 1), load(0, 1), downs(0, 1)}, [][]api.Errno{{0}, {0, 0}}},
+		{"Down", 1, nil, [][]api.Call{ops(1)}, []api.Step{load(0, 1), downs(0, 1)}, [][]api.Answer{codes(0)}},
+		{"Down of more", 5, nil, [][]api.Call{ops(1, 1)}, []api.Step{load(0, 5), downs(0, 5), load(0, 4), downs(0, 4)}, [][]api.Answer{codes(0, 0)}},
+		{"Down of 0", 0, nil, [][]api.Call{ops(1, 1)}, []api.Step{load(0, 0), load(0, 0)}, [][]api.Answer{codes(low, low)}},
+		{"Down till it is 0", 2, nil, [][]api.Call{ops(1, 1, 1, 1)}, []api.Step{load(0, 2), downs(0, 2), load(0, 1), downs(0, 1), load(0, 0), load(0, 0)}, [][]api.Answer{codes(0, 0, low, low)}},
+		{"Wait of 0", 0, nil, [][]api.Call{ops(2, 2)}, []api.Step{load(0, 0), load(0, 0)}, [][]api.Answer{codes(0, 0)}},
+		{"Wait behind the last Down", 1, nil, [][]api.Call{ops(1, 2, 1, 2)}, []api.Step{load(0, 1), downs(0, 1), load(0, 0), load(0, 0), load(0, 0)}, [][]api.Answer{codes(0, 0, low, 0)}},
+		{"Wait ahead of the last Down", 1, []int{0, 0, 0, 0, 0}, [][]api.Call{ops(2), ops(1)}, []api.Step{load(0, 1), load(1, 1), downs(1, 1), wakes(0), load(0, 0)}, [][]api.Answer{codes(0), codes(0)}},
+		{"Wait that is woken by each Down", 2, []int{0, 0, 0, 0, 0, 0, 0, 0}, [][]api.Call{ops(2), ops(1, 1)},
+			[]api.Step{load(0, 2), load(1, 2), downs(1, 2), wakes(0), load(0, 1), load(1, 1), downs(1, 1), wakes(0), load(0, 0)}, [][]api.Answer{codes(0), codes(0, 0)}},
+		{"Wait that sleeps through a Down", 2, []int{0, 0, 0, 1, 1, 0}, [][]api.Call{ops(2), ops(1, 1)},
+			[]api.Step{load(0, 2), load(1, 2), downs(1, 2), load(1, 1), downs(1, 1), wakes(0), load(0, 0)}, [][]api.Answer{codes(0), codes(0, 0)}},
+		{"Wait that nobody wakes", 1, nil, [][]api.Call{ops(2)}, []api.Step{load(0, 1), nobody}, [][]api.Answer{codes(stuck)}},
+		{"Waits that nobody wakes", 3, nil, [][]api.Call{ops(2), ops(1, 2)}, []api.Step{load(0, 3), load(1, 3), downs(1, 3), wakes(0), load(1, 2), load(0, 2), nobody}, [][]api.Answer{codes(stuck), codes(0, stuck)}},
+		{"Wait in a world that is stuck", 2, nil, [][]api.Call{ops(2, 2, 1, 2, 1, 2)},
+			[]api.Step{load(0, 2), nobody, load(0, 2), load(0, 2), downs(0, 2), load(0, 1), load(0, 1), downs(0, 1), load(0, 0)}, [][]api.Answer{codes(stuck, stuck, 0, stuck, 0, 0)}},
+		{"a failed Cas wakes nobody", 3, []int{0, 0, 1, 0, 0, 0, 0, 0, 0, 0, 0}, [][]api.Call{ops(2), ops(1), ops(1)},
+			[]api.Step{load(0, 3), load(1, 3), load(2, 3), downs(1, 3), wakes(0), load(0, 2), fails(2, 2), load(2, 2), downs(2, 2), wakes(0), load(0, 1), nobody}, [][]api.Answer{codes(stuck), codes(0), codes(0)}},
+		{"Down whose Cas finds another number", 5, []int{0, 1, 1, 0, 0, 0}, [][]api.Call{ops(1), ops(1)}, []api.Step{load(0, 5), load(1, 5), downs(1, 5), fails(0, 4), load(0, 4), downs(0, 4)}, [][]api.Answer{codes(0), codes(0)}},
+		{"Down whose Cas finds 0", 1, []int{0, 1, 1, 0, 0}, [][]api.Call{ops(1), ops(1)}, []api.Step{load(0, 1), load(1, 1), downs(1, 1), fails(0, 0), load(0, 0)}, [][]api.Answer{codes(low), codes(0)}},
+		{"Down that fails twice", 3, []int{0, 1, 1, 0, 0, 1, 1, 0}, [][]api.Call{ops(1), ops(1, 1)},
+			[]api.Step{load(0, 3), load(1, 3), downs(1, 3), fails(0, 2), load(0, 2), load(1, 2), downs(1, 2), fails(0, 1), load(0, 1), downs(0, 1)}, [][]api.Answer{codes(0), codes(0, 0)}},
 	} {
-		w, got := turn.New(x.schedule), make([][]api.Errno, len(x.scripts))
+		w := turn.New(x.schedule)
 		l := latch.New(w, x.n)
-		var bodies []func(*turn.Thread)
-		for i, calls := range x.scripts {
-			bodies = append(bodies, func(th *turn.Thread) {
-				for _, op := range calls {
-					got[i] = append(got[i], does(l, th, op))
-				}
-			})
-		}
-		w.Run(bodies)
-		if !slices.Equal(w.Trace(), x.want) || !slices.EqualFunc(got, x.answers, slices.Equal[[]api.Errno]) {
+		got := trial.Calls(w, x.scripts, func(th *turn.Thread, op int) api.Answer { return api.Answer{Code: does(l, th, op)} })
+		if !slices.Equal(w.Trace(), x.want) || !trial.Same(got, x.answers) {
 			t.Errorf("%s: %v %v", x.name, w.Trace(), got)
 		}
 	}
@@ -288,7 +253,7 @@ func TestPlay(t *testing.T) {
 	r := trial.Row(1)
 	stucks, woken, failed, lows, missing := 0, 0, 0, 0, 0
 	for range 5000 {
-		told := plays(t, r.Schedule(60), r.One(0, 1, 2, 3, 5, 8, 100), scripts(&r, r.One(1, 2, 3, api.MaxThreads), 5, 1, 1, 1, 2, r.One(0, 1, 2, 3, -1)))
+		told := plays(t, r.Schedule(60), r.One(0, 1, 2, 3, 5, 8, 100), r.Scripts(r.One(1, 2, 3, api.MaxThreads), 5, 1, 1, 1, 2, r.One(0, 1, 2, 3, -1)))
 		stucks += trial.Number(told.Stuck)
 		woken += trial.Number(told.Count(trial.Wakes) > 0)
 		failed += trial.Number(told.Count(trial.Fails) > 0)

@@ -35,14 +35,7 @@ func script(l ...int) []api.Call {
 	return out
 }
 
-// ops makes calls of Ops alone.
-func ops(l ...int) []api.Call {
-	var out []api.Call
-	for _, op := range l {
-		out = append(out, api.Call{Op: op})
-	}
-	return out
-}
+var ops = trial.Ops
 
 // does carries the lock's own calls out, as toldCalls tells them.
 func does(l *lock.Lock, t *turn.Thread, op int) int {

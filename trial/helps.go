@@ -42,6 +42,24 @@ func Number(so bool) int {
 	return 0
 }
 
+// Ops are calls of those, with nothing beside.
+func Ops(l ...int) []api.Call {
+	out := make([]api.Call, len(l))
+	for i, op := range l {
+		out[i].Op = op
+	}
+	return out
+}
+
+// Codes are answers whose Values are 0.
+func Codes(l ...api.Errno) []api.Answer {
+	out := make([]api.Answer, len(l))
+	for i, e := range l {
+		out[i].Code = e
+	}
+	return out
+}
+
 // Values are answers without an error.
 func Values(l ...int) []api.Answer {
 	out := make([]api.Answer, len(l))
@@ -96,6 +114,17 @@ func (r *Row) Schedule(most int) []int {
 	out := make([]int, r.Below(most))
 	for i := range out {
 		out[i] = r.One(0, 1, 2, 3, 4, 5, 6, 7, 8, 100, -1, -2, -3, -100, math.MaxInt, math.MinInt)
+	}
+	return out
+}
+
+// Scripts are some for 1 to so many threads, each of at most so many calls of these Ops; what a call has beside its Op is of all kinds.
+func (r *Row) Scripts(threads, most int, ops ...int) [][]api.Call {
+	out := make([][]api.Call, 1+r.Below(threads))
+	for i := range out {
+		for range r.Below(most + 1) {
+			out[i] = append(out[i], api.Call{Op: r.One(ops...), A: r.Below(3), B: -r.Below(3), C: r.One(math.MaxInt, math.MinInt, 0)})
+		}
 	}
 	return out
 }

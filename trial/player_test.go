@@ -57,6 +57,25 @@ func TestTell(t *testing.T) {
 	}
 }
 
+// no notes, and it goes on where the world is stuck
+func TestCalls(t *testing.T) {
+	w := turn.New([]int{1})
+	c := cell.New(w, 0)
+	got := trial.Calls(w, [][]api.Call{trial.Ops(1, 2, 2), nil, trial.Ops(1)}, func(x *turn.Thread, op int) api.Answer {
+		if op == 1 {
+			return api.Answer{Value: c.Add(x, 1)}
+		}
+		return api.Answer{Value: trial.Number(c.Until(x, 2))}
+	})
+	want := []api.Step{
+		trial.Step(2, 0, api.StepAdd, 0, 1), trial.Step(0, 0, api.StepAdd, 1, 2), trial.Step(0, 0, api.StepLoad, 2, 2),
+		trial.Step(-1, -1, api.StepStuck, 0, 0), trial.Step(0, 0, api.StepLoad, 2, 2),
+	}
+	if !slices.Equal(w.Trace(), want) || !trial.Same(got, [][]api.Answer{trial.Values(2, 0, 0), nil, trial.Values(1)}) {
+		t.Error(w.Trace(), got)
+	}
+}
+
 func TestRefuses(t *testing.T) {
 	fine := calls(1, 5, 2)
 	if err := trial.Player(right).Refuses(fine); err != nil {

@@ -133,3 +133,34 @@ func TestRow(t *testing.T) {
 		t.Error(below0, above, long)
 	}
 }
+
+func TestScripts(t *testing.T) {
+	r, again := trial.Row(8), trial.Row(8)
+	threads, long := map[int]int{}, map[int]int{}
+	ops := map[int]int{}
+	for range 500 {
+		l := r.Scripts(3, 4, 1, 2, -5)
+		if !slices.EqualFunc(l, again.Scripts(3, 4, 1, 2, -5), slices.Equal[[]api.Call]) {
+			t.Fatal("another row")
+		}
+		threads[len(l)]++
+		for _, calls := range l {
+			long[len(calls)]++
+			for _, c := range calls {
+				ops[c.Op]++
+			}
+		}
+	}
+	if threads[0] > 0 || len(threads) != 3 || len(long) != 5 || long[4] == 0 || len(ops) != 3 || min(ops[1], ops[2], ops[-5]) == 0 {
+		t.Error(threads, long, ops)
+	}
+}
+
+func TestOpsAndCodes(t *testing.T) {
+	if l := trial.Ops(3, -1); !slices.Equal(l, []api.Call{{Op: 3}, {Op: -1}}) || len(trial.Ops()) != 0 {
+		t.Error(l)
+	}
+	if l := trial.Codes(api.ErrStuck, 0); !slices.Equal(l, []api.Answer{{Code: api.ErrStuck}, {}}) || len(trial.Codes()) != 0 {
+		t.Error(l)
+	}
+}
