@@ -7,7 +7,7 @@ import (
 
 // model is a game by the chapter's words.
 func (g game) model() trial.Game {
-	return trial.Game{Cells: g.values, Scripts: g.scripts, Call: func(c api.Call) trial.Next { return told(c, at(c.A, len(g.values))) }}
+	return trial.Game{Cells: g.values, Scripts: g.scripts, Call: func(_ int, c api.Call) trial.Next { return told(c, at(c.A, len(g.values))) }}
 }
 
 // at is which cell a call is about, counted by steps of the cells' number and not by a remainder.

@@ -70,7 +70,7 @@ func TestNew(t *testing.T) {
 		if behind := w.Cell(); behind != ahead+1 {
 			t.Errorf("behind %d cells a gate takes %d", ahead, behind-ahead)
 		}
-		got := trial.Calls(w, [][]api.Call{ops(1)}, func(x *turn.Thread, op int) api.Answer { return does(g, x, op) })
+		got := trial.Calls(w, [][]api.Call{ops(1)}, func(x *turn.Thread, c api.Call) api.Answer { return does(g, x, c.Op) })
 		want := []api.Step{trial.Step(0, ahead, api.StepLoad, 0, 0), trial.Step(0, ahead, api.StepCas, 0, 2)}
 		if !slices.Equal(w.Trace(), want) || !trial.Same(got, [][]api.Answer{{fine}}) {
 			t.Errorf("behind %d cells: %v, %v", ahead, w.Trace(), got)
@@ -161,7 +161,7 @@ func TestCalls(t *testing.T) {
 	} {
 		w := turn.New(x.schedule)
 		g := gate.New(w)
-		got := trial.Calls(w, x.scripts, func(th *turn.Thread, op int) api.Answer { return does(g, th, op) })
+		got := trial.Calls(w, x.scripts, func(th *turn.Thread, c api.Call) api.Answer { return does(g, th, c.Op) })
 		if !slices.Equal(w.Trace(), x.want) || !trial.Same(got, x.answers) {
 			t.Errorf("%s: %v %v", x.name, w.Trace(), got)
 		}

@@ -13,7 +13,7 @@ func model(scripts [][]api.Call) trial.Game {
 	return trial.Game{Cells: []int{0}, Scripts: scripts, Call: toldPlay}
 }
 
-func toldPlay(c api.Call) trial.Next {
+func toldPlay(_ int, c api.Call) trial.Next {
 	switch c.Op {
 	case 1:
 		return toldEnter()

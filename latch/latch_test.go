@@ -121,7 +121,7 @@ func TestCalls(t *testing.T) {
 	} {
 		w := turn.New(x.schedule)
 		l := latch.New(w, x.n)
-		got := trial.Calls(w, x.scripts, func(th *turn.Thread, op int) api.Answer { return api.Answer{Code: does(l, th, op)} })
+		got := trial.Calls(w, x.scripts, func(th *turn.Thread, c api.Call) api.Answer { return api.Answer{Code: does(l, th, c.Op)} })
 		if !slices.Equal(w.Trace(), x.want) || !trial.Same(got, x.answers) {
 			t.Errorf("%s: %v %v", x.name, w.Trace(), got)
 		}

@@ -13,7 +13,7 @@ func model(n int, scripts [][]api.Call) trial.Game {
 	return trial.Game{Cells: []int{n}, Scripts: scripts, Call: toldPlay}
 }
 
-func toldPlay(c api.Call) trial.Next {
+func toldPlay(_ int, c api.Call) trial.Next {
 	switch c.Op {
 	case 1:
 		return toldDown()

@@ -17,7 +17,7 @@ func model(scripts [][]api.Call) trial.Game {
 	return trial.Game{Cells: make([]int, 3), Scripts: scripts, Call: toldPlay}
 }
 
-func toldPlay(c api.Call) trial.Next {
+func toldPlay(_ int, c api.Call) trial.Next {
 	switch c.Op {
 	case 1:
 		return toldLock(func(has bool) trial.Next {
@@ -72,7 +72,7 @@ func toldUnlock(then func() trial.Next) trial.Next {
 }
 
 // toldCalls are the lock's own calls: Op 1 Lock, 2 Try, 3 Unlock, in any order, also by who has not the lock. What they answer is a 1 or a 0.
-func toldCalls(c api.Call) trial.Next {
+func toldCalls(_ int, c api.Call) trial.Next {
 	tell := func(has bool) trial.Next { return trial.Over(api.OK, trial.Number(has)) }
 	switch c.Op {
 	case 1:

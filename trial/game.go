@@ -6,11 +6,11 @@ import (
 	"butler/api"
 )
 
-// Game is a Play: what stands in its cells at first, its scripts, and what a call does.
+// Game is a Play: what stands in its cells at first, its scripts, and what a call of a thread does.
 type Game struct {
 	Cells   []int
 	Scripts [][]api.Call
-	Call    func(c api.Call) Next
+	Call    func(thread int, c api.Call) Next
 }
 
 // Told is what a Play tells: its world's trace, its answers, and whether its world was stuck.
@@ -65,7 +65,7 @@ func (g Game) Schedules(yield func(schedule []int) bool) {
 
 // world is where a game goes on: it keeps what each thread is about to do.
 type world struct {
-	call     func(c api.Call) Next
+	call     func(thread int, c api.Call) Next
 	schedule []int
 	first    bool // behind the schedule's end always the first one goes, not the next one in turn
 	last     int
@@ -111,7 +111,7 @@ func (m *world) note(thread, cell, op, before, after int) {
 func (m *world) begin(x *thread) {
 	if !x.ended() {
 		m.note(x.id, -1, api.StepBegin, len(x.answers), 0)
-		x.next = m.call(x.calls[len(x.answers)])
+		x.next = m.call(x.id, x.calls[len(x.answers)])
 	}
 }
 

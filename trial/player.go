@@ -21,13 +21,13 @@ func (p Player) Tell(schedule []int, scripts [][]api.Call) (Told, api.Errno) {
 }
 
 // Calls lets a thread for each script carry its calls out. Unlike a Play it notes nothing, and goes on where the world is stuck.
-func Calls(w *turn.World, scripts [][]api.Call, do func(t *turn.Thread, op int) api.Answer) [][]api.Answer {
+func Calls(w *turn.World, scripts [][]api.Call, do func(t *turn.Thread, c api.Call) api.Answer) [][]api.Answer {
 	answers := make([][]api.Answer, len(scripts))
 	var bodies []func(*turn.Thread)
 	for i, calls := range scripts {
 		bodies = append(bodies, func(t *turn.Thread) {
 			for _, c := range calls {
-				answers[i] = append(answers[i], do(t, c.Op))
+				answers[i] = append(answers[i], do(t, c))
 			}
 		})
 	}

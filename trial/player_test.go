@@ -61,8 +61,8 @@ func TestTell(t *testing.T) {
 func TestCalls(t *testing.T) {
 	w := turn.New([]int{1})
 	c := cell.New(w, 0)
-	got := trial.Calls(w, [][]api.Call{trial.Ops(1, 2, 2), nil, trial.Ops(1)}, func(x *turn.Thread, op int) api.Answer {
-		if op == 1 {
+	got := trial.Calls(w, [][]api.Call{trial.Ops(1, 2, 2), nil, trial.Ops(1)}, func(x *turn.Thread, call api.Call) api.Answer {
+		if call.Op == 1 {
 			return api.Answer{Value: c.Add(x, 1)}
 		}
 		return api.Answer{Value: trial.Number(c.Until(x, 2))}

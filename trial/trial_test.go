@@ -9,8 +9,8 @@ import (
 	"butler/trial"
 )
 
-// counts lets a call of Op 1 add to the cell A, of Op 2 wait there till something else than 0 stands there, and answer it.
-func counts(c api.Call) trial.Next {
+// counts lets a call of Op 1 add to the cell A, of Op 2 wait there till something else than 0 stands there, and answer it; one of Op 3 answers who makes it.
+func counts(thread int, c api.Call) trial.Next {
 	switch c.Op {
 	case 1:
 		return trial.Add(c.A, 1, func(sum int) trial.Next { return trial.Over(api.OK, sum) })
@@ -23,9 +23,11 @@ func counts(c api.Call) trial.Next {
 				if !changed {
 					return trial.Over(api.ErrStuck, 0)
 				}
-				return counts(c)
+				return counts(thread, c)
 			})
 		})
+	case 3:
+		return trial.Over(api.OK, thread)
 	}
 	return trial.Over(api.ErrArg, 0)
 }
@@ -65,6 +67,14 @@ func TestPlay(t *testing.T) {
 	}
 	if !slices.Equal(g.Cells, []int{0, 5}) {
 		t.Error(g.Cells)
+	}
+}
+
+// a call knows by whom it is made
+func TestWho(t *testing.T) {
+	told := trial.Game{Cells: []int{0}, Scripts: [][]api.Call{calls(3, 0, 2), nil, append(calls(1, 0, 1), calls(3, 0, 1)...)}, Call: counts}.Play(nil)
+	if !trial.Same(told.Answers, [][]api.Answer{trial.Values(0, 0), nil, trial.Values(1, 2)}) {
+		t.Error(told)
 	}
 }
 

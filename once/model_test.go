@@ -1,0 +1,81 @@
+package once_test
+
+import (
+	"butler/api"
+	"butler/trial"
+)
+
+// model is a Play by the chapter's words: the once i has the cells 2 i, WORD, and 2 i + 1, VALUE.
+func model(many int, scripts [][]api.Call) trial.Game {
+	return trial.Game{Cells: make([]int, 2*many), Scripts: scripts, Call: func(thread int, c api.Call) trial.Next {
+		if c.Op < 1 || c.Op > 4 {
+			return trial.Over(api.ErrArg, 0)
+		}
+		return toldDo(2*rest(c.A, many), thread, api.Act{Kind: c.Op - 1, Value: c.B}, ends)
+	}}
+}
+
+// modelOfCalls is of one once whose calls are Do, with an act of any Kind, the Op, and the Value B.
+func modelOfCalls(scripts [][]api.Call) trial.Game {
+	return trial.Game{Cells: make([]int, 2), Scripts: scripts, Call: func(thread int, c api.Call) trial.Next {
+		return toldDo(0, thread, api.Act{Kind: c.Op, Value: c.B}, ends)
+	}}
+}
+
+func rest(a, many int) int { return (a%many + many) % many }
+
+func ends(x api.Answer) trial.Next { return trial.Over(x.Code, x.Value) }
+
+// WORDs, in numbers: a STATE below 4, four times a WHO below 256, 1024 times a CODE
+func going(who int) int       { return 1 + 4*who }
+func done(code api.Errno) int { return 2 + 1024*int(code) }
+
+// toldDo is Do of the once whose WORD is the cell at, by the thread who.
+func toldDo(at, who int, a api.Act, then func(x api.Answer) trial.Next) trial.Next {
+	again := func() trial.Next { return toldDo(at, who, a, then) }
+	return trial.Load(at, func(v int) trial.Next {
+		switch {
+		case v%4 == 2:
+			return trial.Load(at+1, func(x int) trial.Next { return then(api.Answer{Code: api.Errno(v / 1024), Value: x}) })
+		case v%4 == 0:
+			return trial.Cas(at, v, going(who), func(done bool) trial.Next {
+				if !done {
+					return again()
+				}
+				return toldAct(at, who, a, func(x api.Answer) trial.Next { return toldKeep(at, x, then) })
+			})
+		case v/4%256 == who:
+			return then(api.Answer{Code: api.ErrOnceAgain})
+		}
+		return trial.Await(at, func(changed bool) trial.Next {
+			if !changed {
+				return then(api.Answer{Code: api.ErrStuck})
+			}
+			return again()
+		})
+	})
+}
+
+// toldAct is what an act comes to.
+func toldAct(at, who int, a api.Act, then func(x api.Answer) trial.Next) trial.Next {
+	switch a.Kind {
+	case 0:
+		return then(api.Answer{Value: a.Value})
+	case 1:
+		return then(api.Answer{Code: api.ErrOnceFail, Value: a.Value})
+	case 2:
+		return then(api.Answer{Code: api.ErrOncePanic, Value: a.Value})
+	case 3:
+		return toldDo(at, who, a, func(x api.Answer) trial.Next {
+			return then(api.Answer{Code: api.ErrOnceFail, Value: int(x.Code)})
+		})
+	}
+	return then(api.Answer{Code: api.ErrArg})
+}
+
+// toldKeep is what follows behind the act.
+func toldKeep(at int, x api.Answer, then func(x api.Answer) trial.Next) trial.Next {
+	return trial.Store(at+1, x.Value, func() trial.Next {
+		return trial.Store(at, done(x.Code), func() trial.Next { return then(x) })
+	})
+}
