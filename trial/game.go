@@ -11,6 +11,7 @@ type Game struct {
 	Cells   []int
 	Scripts [][]api.Call
 	Call    func(thread int, c api.Call) Next
+	Start   func() // if there is one: it makes Call forget what it kept of the game before, since one game is played many times
 }
 
 // Told is what a Play tells: its world's trace, its answers, and whether its world was stuck.
@@ -91,6 +92,9 @@ func (x *thread) ended() bool { return len(x.answers) == len(x.calls) }
 func (x *thread) awaits() bool { return !x.ended() && x.next.op == api.StepWake }
 
 func (g Game) run(schedule []int, first bool) *world {
+	if g.Start != nil {
+		g.Start()
+	}
 	m := &world{call: g.Call, schedule: schedule, first: first, last: -1, cells: slices.Clone(g.Cells), changes: make([]int, len(g.Cells))}
 	for i, calls := range g.Scripts {
 		x := &thread{id: i, calls: calls}

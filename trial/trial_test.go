@@ -78,6 +78,26 @@ func TestWho(t *testing.T) {
 	}
 }
 
+// what a game's calls keep is of one game
+func TestStart(t *testing.T) {
+	kept := 0
+	g := trial.Game{Cells: []int{0}, Scripts: [][]api.Call{calls(1, 0, 2), calls(1, 0, 1)}, Start: func() { kept = 0 }, Call: func(int, api.Call) trial.Next {
+		kept++
+		mine := kept
+		return trial.Load(0, func(int) trial.Next { return trial.Over(api.OK, mine) })
+	}}
+	many := 0
+	for schedule := range g.Schedules {
+		if told := g.Play(schedule); !trial.Same(told.Answers, [][]api.Answer{trial.Values(1, 3), trial.Values(2)}) {
+			t.Error(schedule, told.Answers)
+		}
+		many++
+	}
+	if many != 3 {
+		t.Error(many)
+	}
+}
+
 func TestStuck(t *testing.T) {
 	told := trial.Game{Cells: []int{0}, Scripts: [][]api.Call{calls(2, 0, 3)}, Call: counts}.Play(nil)
 	want := []api.Step{trial.Begin(0, 0), trial.Step(0, 0, api.StepLoad, 0, 0), trial.Step(-1, -1, api.StepStuck, 0, 0), trial.End(0, 0, api.ErrStuck)}
