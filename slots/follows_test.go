@@ -113,20 +113,9 @@ func (r *reader) end(thread int, now current, x api.Answer) error {
 	return nil
 }
 
-// stands is what stands in the cells in the end.
-func (p played) stands() []int {
-	out := cells(p.n, 0)
-	for _, s := range p.Trace {
-		if s.Cell >= 0 {
-			out[s.Cell] = s.New
-		}
-	}
-	return out
-}
-
 // noneLost tells whether in the end each slot is a thread's that took it, or free, one behind the other from HEAD on, once.
 func (r *reader) noneLost() error {
-	stands, left := r.stands(), slices.Clone(r.has)
+	stands, left := r.Stands(trial.Slots{Many: r.n}.Cells(0)), slices.Clone(r.has)
 	for x := stands[head] % one; x != 0; x = stands[next(x-1)] {
 		if left[x-1] != nobody {
 			return errors.New("a slot is free twice, or somebody's")

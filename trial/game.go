@@ -35,6 +35,17 @@ func (x Told) Count(is func(s api.Step) bool) int {
 	return many
 }
 
+// Stands is what stands in the cells in the end, of those in which that stood at first.
+func (x Told) Stands(first []int) []int {
+	out := slices.Clone(first)
+	for _, s := range x.Trace {
+		if s.Cell >= 0 {
+			out[s.Cell] = s.New
+		}
+	}
+	return out
+}
+
 // Play is what a game tells under a schedule.
 func (g Game) Play(schedule []int) Told {
 	m := g.run(schedule, false)
