@@ -194,3 +194,34 @@ func TestOpsAndCodes(t *testing.T) {
 		t.Error(l)
 	}
 }
+
+// recipes of a row may be, and there are such of all kinds
+func TestRecipes(t *testing.T) {
+	r := trial.Row(11)
+	many, rising, twice, itself, failing, levels := 0, 0, 0, 0, 0, 0
+	for range 2000 {
+		l := r.Recipes(9)
+		if len(l) < 1 || len(l) > 9 {
+			t.Fatalf("%d recipes", len(l))
+		}
+		many = max(many, len(l))
+		for key, x := range l {
+			if x.Level < 0 || x.Level >= api.MaxLevels || x.Act < 0 || x.Act > 2 || x.End < 0 || x.End > 2 || x.Value < -1000 || x.Value > 1000 || len(x.Needs) > api.MaxNeeds {
+				t.Fatalf("key %d of %v", key, l)
+			}
+			failing += min(x.Act, 1)
+			levels = max(levels, x.Level)
+			for i, need := range x.Needs {
+				if need < 0 || need >= len(l) || l[need].Level > x.Level {
+					t.Fatalf("key %d of %v", key, l)
+				}
+				rising += trial.Number(need > key)
+				itself += trial.Number(need == key)
+				twice += trial.Number(slices.Contains(x.Needs[:i], need))
+			}
+		}
+	}
+	if many < 9 || rising < 100 || twice < 100 || itself < 100 || failing < 100 || levels < api.MaxLevels-1 {
+		t.Errorf("too tame: up to %d keys, %d needs that are above, %d twice, %d of a key by itself, %d that fail, Levels up to %d", many, rising, twice, itself, failing, levels)
+	}
+}
