@@ -26,34 +26,13 @@ func rest(a, many int) int { return (a%many + many) % many }
 
 func ends(x api.Answer) trial.Next { return trial.Over(x.Code, x.Value) }
 
-// WORDs, in numbers: a STATE below 4, four times a WHO below 256, 1024 times a CODE
-func going(who int) int       { return 1 + 4*who }
-func done(code api.Errno) int { return 2 + 1024*int(code) }
+// short names
+func going(who int) int       { return trial.Going(who) }
+func done(code api.Errno) int { return trial.Done(code) }
 
 // toldDo is Do of the once whose WORD is the cell at, by the thread who.
 func toldDo(at, who int, a api.Act, then func(x api.Answer) trial.Next) trial.Next {
-	again := func() trial.Next { return toldDo(at, who, a, then) }
-	return trial.Load(at, func(v int) trial.Next {
-		switch {
-		case v%4 == 2:
-			return trial.Load(at+1, func(x int) trial.Next { return then(api.Answer{Code: api.Errno(v / 1024), Value: x}) })
-		case v%4 == 0:
-			return trial.Cas(at, v, going(who), func(done bool) trial.Next {
-				if !done {
-					return again()
-				}
-				return toldAct(at, who, a, func(x api.Answer) trial.Next { return toldKeep(at, x, then) })
-			})
-		case v/4%256 == who:
-			return then(api.Answer{Code: api.ErrOnceAgain})
-		}
-		return trial.Await(at, func(changed bool) trial.Next {
-			if !changed {
-				return then(api.Answer{Code: api.ErrStuck})
-			}
-			return again()
-		})
-	})
+	return trial.Kept{At: at}.Get(who, func(then func(x api.Answer) trial.Next) trial.Next { return toldAct(at, who, a, then) }, then)
 }
 
 // toldAct is what an act comes to.
@@ -71,11 +50,4 @@ func toldAct(at, who int, a api.Act, then func(x api.Answer) trial.Next) trial.N
 		})
 	}
 	return then(api.Answer{Code: api.ErrArg})
-}
-
-// toldKeep is what follows behind the act.
-func toldKeep(at int, x api.Answer, then func(x api.Answer) trial.Next) trial.Next {
-	return trial.Store(at+1, x.Value, func() trial.Next {
-		return trial.Store(at, done(x.Code), func() trial.Next { return then(x) })
-	})
 }

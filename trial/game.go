@@ -140,12 +140,15 @@ func (m *world) end(x *thread) {
 	m.begin(x)
 }
 
-// settle brings a thread to its next step, to an await, or to its end.
+// settle brings a thread, with what it notes on the way, to its next step, to an await, or to its end.
 func (m *world) settle(x *thread) {
 	for !x.ended() {
 		switch {
 		case x.next.then == nil:
 			m.end(x)
+		case x.next.cell == noCell:
+			m.note(x.id, noCell, x.next.op, x.next.a, x.next.b)
+			x.next = x.next.then(0)
 		case x.awaits() && m.stuck:
 			x.next = x.next.then(0)
 		default:

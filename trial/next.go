@@ -3,7 +3,10 @@ package trial
 
 import "butler/api"
 
-// Next is what a thread does next in a call: a step, an await, or, with nothing behind it, the call's answer.
+// noCell is the cell of what is no step.
+const noCell = -1
+
+// Next is what a thread does next in a call: a step, an await, a note, or, with nothing behind it, the call's answer.
 type Next struct {
 	op, cell int
 	a, b     int
@@ -39,6 +42,11 @@ func Add(cell, n int, then func(sum int) Next) Next {
 // Await goes on when the cell was changed; with false, if the world is stuck.
 func Await(cell int, then func(changed bool) Next) Next {
 	return Next{op: api.StepWake, cell: cell, then: func(changed int) Next { return then(changed != 0) }}
+}
+
+// Note puts something that is no step behind the trace, and goes on at once.
+func Note(op, a, b int, then func() Next) Next {
+	return Next{op: op, cell: noCell, a: a, b: b, then: func(int) Next { return then() }}
 }
 
 // Over ends the call.

@@ -81,10 +81,13 @@ func (p Player) Refuses(fine []api.Call) error {
 }
 
 // RefusesAll is nil, if a Play refuses everything, since something else that it is handed is an ErrArg; but first what is too long.
-func (p Player) RefusesAll(fine []api.Call) error {
+func (p Player) RefusesAll(fine []api.Call) error { return p.RefusesBy(api.ErrArg, fine) }
+
+// RefusesBy is nil, if a Play refuses by that error what it would take but for something else that it is handed; but first what every Play refuses.
+func (p Player) RefusesBy(want api.Errno, fine []api.Call) error {
 	ran, fresh := turn.New(nil), turn.New(nil)
 	ran.Run([]func(*turn.Thread){func(*turn.Thread) {}})
-	all := append(refusals(fresh, ran, fine), refusal{fresh, [][]api.Call{fine}, api.ErrArg}, refusal{fresh, [][]api.Call{nil}, api.ErrArg})
+	all := append(refusals(fresh, ran, fine), refusal{fresh, [][]api.Call{fine}, want}, refusal{fresh, [][]api.Call{nil}, want})
 	return p.refusesEach(fresh, ran, all)
 }
 

@@ -26,10 +26,17 @@ func adds(w *turn.World, scripts [][]api.Call) [][]api.Answer {
 
 // none is a Play that refuses all, since something else is wrong.
 func none(w *turn.World, scripts [][]api.Call) ([][]api.Answer, api.Errno) {
-	if e := play.Check(w, scripts); e != api.OK {
-		return nil, e
+	return noneBy(api.ErrArg)(w, scripts)
+}
+
+// noneBy does so by that error.
+func noneBy(other api.Errno) trial.Player {
+	return func(w *turn.World, scripts [][]api.Call) ([][]api.Answer, api.Errno) {
+		if e := play.Check(w, scripts); e != api.OK {
+			return nil, e
+		}
+		return nil, other
 	}
-	return nil, api.ErrArg
 }
 
 func TestTell(t *testing.T) {
@@ -83,6 +90,12 @@ func TestRefuses(t *testing.T) {
 	}
 	if err := trial.Player(none).RefusesAll(fine); err != nil {
 		t.Error(err)
+	}
+	for _, e := range []api.Errno{api.ErrArg, api.ErrLong, api.ErrRecipe} {
+		first := trial.Player(func(*turn.World, [][]api.Call) ([][]api.Answer, api.Errno) { return nil, e })
+		if err := noneBy(e).RefusesBy(e, fine); err != nil || first.RefusesBy(e, fine) == nil || noneBy(e+1).RefusesBy(e, fine) == nil {
+			t.Error(e, err)
+		}
 	}
 	for i, p := range []trial.Player{
 		none,
