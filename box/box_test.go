@@ -178,47 +178,14 @@ func TestNew(t *testing.T) {
 	}
 }
 
-// wrong are recipes that recipe.Right refuses, and how.
-type wrong struct {
-	l    []api.Recipe
-	want api.Errno
-}
-
-func wrongRecipes() []wrong {
-	hundred, tooMany := times(api.MaxKeys, gives(1)), make([]int, api.MaxNeeds+1)
-	return []wrong{
-		{nil, api.ErrRecipe},
-		{recipes(), api.ErrRecipe},
-		{recipes(gives(1, 9)), api.ErrRecipe},
-		{recipes(gives(1, 1)), api.ErrRecipe},
-		{recipes(gives(1), gives(1, -1)), api.ErrRecipe},
-		{recipes(gives(1), gives(1, 0, 0, math.MinInt)), api.ErrRecipe},
-		{recipes(gives(1001)), api.ErrRecipe},
-		{recipes(gives(1), gives(-1001)), api.ErrRecipe},
-		{recipes(api.Recipe{Act: 3}), api.ErrRecipe},
-		{recipes(api.Recipe{Act: -1}), api.ErrRecipe},
-		{recipes(api.Recipe{End: 3}), api.ErrRecipe},
-		{recipes(api.Recipe{End: -1}), api.ErrRecipe},
-		{recipes(api.Recipe{Level: api.MaxLevels}), api.ErrRecipe},
-		{recipes(api.Recipe{Level: -1}), api.ErrRecipe},
-		{recipes(api.Recipe{Level: 1}, gives(1, 0)), api.ErrRecipe},
-		{slices.Concat(hundred, recipes(gives(1))), api.ErrLong},
-		{slices.Concat(hundred, recipes(gives(1, 9999))), api.ErrLong},
-		{times(1000, gives(1)), api.ErrLong},
-		{recipes(gives(1), gives(1, tooMany...)), api.ErrLong},
-		{recipes(api.Recipe{Act: 3}, gives(1, tooMany...)), api.ErrLong},
-		{recipes(gives(1, times(api.MaxNeeds+1, 77)...)), api.ErrLong},
-	}
-}
-
 // of recipes that are not right there are no boxes, and no cells
 func TestNewRefuses(t *testing.T) {
-	for i, x := range wrongRecipes() {
+	for i, x := range trial.WrongRecipes() {
 		w := turn.New(nil)
-		if b, e := box.New(w, x.l); b != nil || e != x.want || w.Cell() != 0 {
+		if b, e := box.New(w, x.Recipes); b != nil || e != x.Error || w.Cell() != 0 {
 			t.Errorf("%d: %v, error %d", i, b, e)
 		}
-		if b, e := box.New(nil, x.l); b != nil || e != x.want {
+		if b, e := box.New(nil, x.Recipes); b != nil || e != x.Error {
 			t.Errorf("%d, of no world: %v, error %d", i, b, e)
 		}
 	}
@@ -734,9 +701,9 @@ func TestRefused(t *testing.T) {
 			t.Errorf("%d: %v", i, err)
 		}
 	}
-	for i, x := range wrongRecipes() {
+	for i, x := range trial.WrongRecipes() {
 		for _, some := range [][]api.Call{nil, script} {
-			if err := player(x.l).RefusesBy(x.want, some); err != nil {
+			if err := player(x.Recipes).RefusesBy(x.Error, some); err != nil {
 				t.Errorf("%d: %v", i, err)
 			}
 		}
@@ -745,51 +712,23 @@ func TestRefused(t *testing.T) {
 
 // P13.3
 
-// roomy are recipes with spare room, in their Needs, too, in which something stands.
-func roomy(l []api.Recipe) []api.Recipe {
-	out := slices.Clone(l)
-	for key := range out {
-		out[key].Needs = trial.Roomy(-77, l[key].Needs...)
-	}
-	return trial.Roomy(api.Recipe{Needs: []int{-88}, Act: 99}, out...)
-}
-
-// whole are recipes with their spare room, and that of their Needs, in new memory.
-func whole(l []api.Recipe) []api.Recipe {
-	out := slices.Clone(l[:cap(l)])
-	for key := range out {
-		out[key].Needs = slices.Clone(out[key].Needs[:cap(out[key].Needs)])
-	}
-	return out
-}
-
-// spoil writes recipes over, so that they say something else.
-func spoil(l []api.Recipe) {
-	for key := range l {
-		for i := range l[key].Needs {
-			l[key].Needs[i] = key
-		}
-		l[key] = api.Recipe{Act: 2, Value: 999, Needs: []int{key}}
-	}
-}
-
 // W6: what is handed in is neither changed nor kept
 func TestMemory(t *testing.T) {
 	r := trial.Row(9)
 	for range 300 {
-		l := roomy(r.Recipes(6))
-		given := whole(l)
+		l := trial.RoomyRecipes(r.Recipes(6))
+		given := trial.WholeRecipes(l)
 		scripts := someGets(&r, len(l), 3, 4)
 		want := plays(t, nil, l, scripts)
 		w := turn.New(nil)
 		b := made(t, w, l)
-		if !reflect.DeepEqual(whole(l), given) {
-			t.Fatalf("the recipes were changed: %v, they were %v", whole(l), given)
+		if !reflect.DeepEqual(trial.WholeRecipes(l), given) {
+			t.Fatalf("the recipes were changed: %v, they were %v", trial.WholeRecipes(l), given)
 		}
-		spoil(l)
+		trial.SpoilRecipes(l)
 		got := trial.Calls(w, scripts, func(x *turn.Thread, c api.Call) api.Answer {
 			a := b.Get(x, c.A)
-			spoil(l)
+			trial.SpoilRecipes(l)
 			return a
 		})
 		if !trial.Same(got, want.Answers) || !slices.Equal(w.Trace(), trial.Bare(want.Trace)) {

@@ -25,47 +25,13 @@ func (l toldBoxes) get(who, key int, then then) trial.Next {
 		return then(api.Answer{Code: api.ErrHouseKey})
 	}
 	return trial.Kept{At: 2 * key}.Get(who, func(keep func(x api.Answer) trial.Next) trial.Next {
-		return trial.Note(api.StepBuild, key, 0, func() trial.Next { return l.build(who, key, l[key].Needs, nil, keep) })
+		return trial.Note(api.StepBuild, key, 0, func() trial.Next { return l.build(who, key, keep) })
 	}, then)
 }
 
-// build is to build a key, of whose needs some are left, and the others gave that.
-func (l toldBoxes) build(who, key int, left, gave []int, keep then) trial.Next {
-	if len(left) == 0 {
-		return keep(l.act(key, gave))
-	}
-	need := left[0]
-	return trial.Chain{At: 2 * len(l), Many: len(l)}.Ask(key, need, func(ring bool) trial.Next {
-		if ring {
-			return keep(api.Answer{Code: api.ErrBoxRing, Value: need})
-		}
-		return l.get(who, need, func(x api.Answer) trial.Next {
-			switch x.Code {
-			case api.OK:
-				return l.build(who, key, left[1:], append(gave[:len(gave):len(gave)], x.Value), keep)
-			case api.ErrStuck:
-				return keep(x)
-			}
-			return keep(api.Answer{Code: api.ErrBoxNeed, Value: need})
-		})
-	})
-}
-
-// act is what a key comes to whose needs gave that.
-func (l toldBoxes) act(key int, gave []int) api.Answer {
-	own := l[key].Value
-	switch l[key].Act {
-	case 1:
-		return api.Answer{Code: api.ErrOnceFail, Value: own}
-	case 2:
-		return api.Answer{Code: api.ErrOncePanic, Value: own}
-	}
-	sum := own
-	for _, v := range gave {
-		sum += v
-	}
-	for sum < 0 {
-		sum += 1000003
-	}
-	return api.Answer{Value: sum % 1000003}
+func (l toldBoxes) build(who, key int, keep then) trial.Next {
+	chain := trial.Chain{At: 2 * len(l), Many: len(l)}
+	rings := func(need int, then func(ring bool) trial.Next) trial.Next { return chain.Ask(key, need, then) }
+	get := func(need int, then then) trial.Next { return l.get(who, need, then) }
+	return trial.Build(l[key], rings, get, keep)
 }

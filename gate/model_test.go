@@ -14,71 +14,15 @@ func model(scripts [][]api.Call) trial.Game {
 }
 
 func toldPlay(_ int, c api.Call) trial.Next {
+	g := trial.Gate{At: cellGate}
+	tells := func(e api.Errno) trial.Next { return trial.Over(e, 0) }
 	switch c.Op {
 	case 1:
-		return toldEnter()
+		return g.Enter(tells)
 	case 2:
-		return toldLeave()
+		return g.Leave(tells)
 	case 3:
-		return toldShut()
+		return g.Shut(func(first bool, e api.Errno) trial.Next { return trial.Over(e, trial.Number(first)) })
 	}
-	return trial.Over(api.ErrArg, 0)
-}
-
-func toldEnter() trial.Next {
-	return trial.Load(cellGate, func(v int) trial.Next {
-		if v%2 == 1 {
-			return trial.Over(api.ErrGateShut, 0)
-		}
-		return trial.Cas(cellGate, v, v+2, func(done bool) trial.Next {
-			if done {
-				return trial.Over(api.OK, 0)
-			}
-			return toldEnter()
-		})
-	})
-}
-
-func toldLeave() trial.Next {
-	return trial.Load(cellGate, func(v int) trial.Next {
-		if v < 2 {
-			return trial.Over(api.ErrGateEmpty, 0)
-		}
-		return trial.Cas(cellGate, v, v-2, func(done bool) trial.Next {
-			if done {
-				return trial.Over(api.OK, 0)
-			}
-			return toldLeave()
-		})
-	})
-}
-
-// toldShut is its points 1 and 2.
-func toldShut() trial.Next {
-	return trial.Load(cellGate, func(v int) trial.Next {
-		if v%2 == 1 {
-			return toldLooks(0)
-		}
-		return trial.Cas(cellGate, v, v+1, func(done bool) trial.Next {
-			if done {
-				return toldLooks(1)
-			}
-			return toldShut()
-		})
-	})
-}
-
-// toldLooks is Shut's points 3 and 4.
-func toldLooks(first int) trial.Next {
-	return trial.Load(cellGate, func(v int) trial.Next {
-		if v == 1 {
-			return trial.Over(api.OK, first)
-		}
-		return trial.Await(cellGate, func(changed bool) trial.Next {
-			if changed {
-				return toldLooks(first)
-			}
-			return trial.Over(api.ErrStuck, 0)
-		})
-	})
+	return tells(api.ErrArg)
 }

@@ -35,7 +35,7 @@ func (x Told) Count(is func(s api.Step) bool) int {
 	return many
 }
 
-// Stands is what stands in the cells in the end, of those in which that stood at first.
+// Stands is what stands in the cells in the end, of those in which that stood at first; of a game that makes no more of them.
 func (x Told) Stands(first []int) []int {
 	out := slices.Clone(first)
 	for _, s := range x.Trace {
@@ -140,12 +140,14 @@ func (m *world) end(x *thread) {
 	m.begin(x)
 }
 
-// settle brings a thread, with what it notes on the way, to its next step, to an await, or to its end.
+// settle brings a thread, with what it notes and makes on the way, to its next step, to an await, or to its end.
 func (m *world) settle(x *thread) {
 	for !x.ended() {
 		switch {
 		case x.next.then == nil:
 			m.end(x)
+		case x.next.op == makes:
+			x.next = x.next.then(m.make(x.next.made))
 		case x.next.cell == noCell:
 			m.note(x.id, noCell, x.next.op, x.next.a, x.next.b)
 			x.next = x.next.then(0)
@@ -156,6 +158,14 @@ func (m *world) settle(x *thread) {
 			return
 		}
 	}
+}
+
+// make makes new cells, and tells the number of the first of them.
+func (m *world) make(first []int) int {
+	at := len(m.cells)
+	m.cells = append(m.cells, first...)
+	m.changes = append(m.changes, make([]int, len(first))...)
+	return at
 }
 
 // turn lets one thread go; false: nobody is left.

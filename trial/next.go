@@ -6,10 +6,11 @@ import "butler/api"
 // noCell is the cell of what is no step.
 const noCell = -1
 
-// Next is what a thread does next in a call: a step, an await, a note, or, with nothing behind it, the call's answer.
+// Next is what a thread does next in a call: a step, an await, a note, new cells, or, with nothing behind it, the call's answer.
 type Next struct {
 	op, cell int
 	a, b     int
+	made     []int
 	then     func(got int) Next
 	answer   api.Answer
 }
@@ -47,6 +48,14 @@ func Await(cell int, then func(changed bool) Next) Next {
 // Note puts something that is no step behind the trace, and goes on at once.
 func Note(op, a, b int, then func() Next) Next {
 	return Next{op: op, cell: noCell, a: a, b: b, then: func(int) Next { return then() }}
+}
+
+// makes is what it is to make cells, which is no step and not noted.
+const makes = -1
+
+// Make makes new cells, in which those stand at first, and goes on at once with the number of the first of them.
+func Make(first []int, then func(at int) Next) Next {
+	return Next{op: makes, cell: noCell, made: first, then: then}
 }
 
 // Over ends the call.

@@ -1,6 +1,11 @@
 package trial
 
-import "butler/api"
+import (
+	"math"
+	"slices"
+
+	"butler/api"
+)
 
 // Recipes are some that are right, for 1 to so many keys: with rings and without, on few Levels or many, with Acts that fail or none.
 func (r *Row) Recipes(most int) []api.Recipe {
@@ -46,5 +51,62 @@ func lift(l []api.Recipe) {
 				l[key].Level = max(l[key].Level, l[need].Level)
 			}
 		}
+	}
+}
+
+// Wrong are recipes that may not be, and recipe.Right's error.
+type Wrong struct {
+	Recipes []api.Recipe
+	Error   api.Errno
+}
+
+// WrongRecipes are such, each wrong in another way; some in several.
+func WrongRecipes() []Wrong {
+	needs := func(l ...int) api.Recipe { return api.Recipe{Needs: l} }
+	hundred, tooMany := make([]api.Recipe, api.MaxKeys), needs(make([]int, api.MaxNeeds+1)...)
+	var out []Wrong
+	for _, l := range [][]api.Recipe{
+		nil, {},
+		{needs(9)}, {needs(1)}, {{}, needs(-1)}, {{}, needs(0, 0, math.MinInt)},
+		{{Value: 1001}}, {{}, {Value: -1001}},
+		{{Act: 3}}, {{Act: -1}}, {{End: 3}}, {{End: -1}},
+		{{Level: api.MaxLevels}}, {{Level: -1}}, {{Level: 1}, needs(0)},
+	} {
+		out = append(out, Wrong{l, api.ErrRecipe})
+	}
+	for _, l := range [][]api.Recipe{
+		append(hundred, api.Recipe{}), append(hundred, needs(9999)), make([]api.Recipe, 1000),
+		{{}, tooMany}, {{Act: 3}, tooMany}, {needs(slices.Repeat([]int{77}, api.MaxNeeds+1)...)},
+	} {
+		out = append(out, Wrong{l, api.ErrLong})
+	}
+	return out
+}
+
+// RoomyRecipes are these with spare room, in their Needs, too, in which something stands.
+func RoomyRecipes(l []api.Recipe) []api.Recipe {
+	out := slices.Clone(l)
+	for key := range out {
+		out[key].Needs = Roomy(-77, l[key].Needs...)
+	}
+	return Roomy(api.Recipe{Needs: []int{-88}, Act: 99}, out...)
+}
+
+// WholeRecipes are these with their spare room, and that of their Needs, in new memory.
+func WholeRecipes(l []api.Recipe) []api.Recipe {
+	out := slices.Clone(l[:cap(l)])
+	for key := range out {
+		out[key].Needs = slices.Clone(out[key].Needs[:cap(out[key].Needs)])
+	}
+	return out
+}
+
+// SpoilRecipes writes recipes over, so that they say something else.
+func SpoilRecipes(l []api.Recipe) {
+	for key := range l {
+		for i := range l[key].Needs {
+			l[key].Needs[i] = key
+		}
+		l[key] = api.Recipe{Act: 2, Value: 999, Needs: []int{key}}
 	}
 }

@@ -98,6 +98,36 @@ func TestStart(t *testing.T) {
 	}
 }
 
+// cells that are made while a game goes on: numbered as they come, awaited as all others, of one game alone
+func TestMake(t *testing.T) {
+	first := []int{0, 9}
+	makes := func(thread int, c api.Call) trial.Next {
+		return trial.Add(0, 1, func(int) trial.Next {
+			return trial.Make(first, func(at int) trial.Next {
+				return trial.Add(at+c.A, 1, func(sum int) trial.Next { return trial.Over(api.OK, 100*at+sum) })
+			})
+		})
+	}
+	g := trial.Game{Cells: []int{5}, Scripts: [][]api.Call{{{A: 0}}, {{A: 1}, {A: 1}}}, Call: makes}
+	for range 2 {
+		told := g.Play([]int{1, 0, 0, 0})
+		want := []api.Step{
+			trial.Step(1, 0, api.StepAdd, 5, 6), trial.Step(0, 0, api.StepAdd, 6, 7), trial.Step(0, 3, api.StepAdd, 0, 1),
+			trial.Step(1, 2, api.StepAdd, 9, 10), trial.Step(1, 0, api.StepAdd, 7, 8), trial.Step(1, 6, api.StepAdd, 9, 10),
+		}
+		if !slices.Equal(trial.Bare(told.Trace), want) || !trial.Same(told.Answers, [][]api.Answer{trial.Values(301), trial.Values(110, 510)}) {
+			t.Error(told)
+		}
+	}
+	waits := func(thread int, c api.Call) trial.Next {
+		return trial.Make([]int{0}, func(at int) trial.Next { return counts(thread, api.Call{Op: c.Op, A: at - c.A}) })
+	}
+	told := trial.Game{Scripts: [][]api.Call{calls(2, 0, 1), calls(1, 1, 1)}, Call: waits}.Play([]int{0})
+	if !trial.Same(told.Answers, [][]api.Answer{trial.Values(1), trial.Values(1)}) || told.Count(trial.Wakes) != 1 || !slices.Equal(g.Cells, []int{5}) || !slices.Equal(first, []int{0, 9}) {
+		t.Error(told)
+	}
+}
+
 func TestStuck(t *testing.T) {
 	told := trial.Game{Cells: []int{0}, Scripts: [][]api.Call{calls(2, 0, 3)}, Call: counts}.Play(nil)
 	want := []api.Step{trial.Begin(0, 0), trial.Step(0, 0, api.StepLoad, 0, 0), trial.Step(-1, -1, api.StepStuck, 0, 0), trial.End(0, 0, api.ErrStuck)}

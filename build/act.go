@@ -1,4 +1,4 @@
-package box
+package build
 
 import "butler/api"
 
