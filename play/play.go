@@ -6,14 +6,25 @@ import (
 	"butler/turn"
 )
 
-// Check is the error of a Play, as far as it hangs on its world and its scripts alone. It looks at all scripts for what is too long ahead of counting them, since ErrLong goes first.
+// Check is the error of a Play, as far as it hangs on its world and its scripts alone.
 func Check(w *turn.World, scripts [][]api.Call) api.Errno {
+	if e := CheckScripts(scripts); e != api.OK {
+		return e
+	}
+	if w == nil || w.Ran() {
+		return api.ErrArg
+	}
+	return api.OK
+}
+
+// CheckScripts is the error of a Play, as far as it hangs on its scripts alone. It looks at all of them for what is too long ahead of counting them, since ErrLong goes first.
+func CheckScripts(scripts [][]api.Call) api.Errno {
 	for _, calls := range scripts {
 		if len(calls) > api.MaxCalls {
 			return api.ErrLong
 		}
 	}
-	if len(scripts) == 0 || len(scripts) > api.MaxThreads || w == nil || w.Ran() {
+	if len(scripts) == 0 || len(scripts) > api.MaxThreads {
 		return api.ErrArg
 	}
 	return api.OK
@@ -28,7 +39,7 @@ func Which(a, many int) int {
 	return a
 }
 
-// Run lets a thread for each script carry its calls out, and tells all answers. What do keeps for a thread must be that thread's own.
+// Run lets a thread for each script carry its calls out, of a world by turns, of none freely, and tells all answers. What do keeps for a thread must be that thread's own.
 func Run(w *turn.World, scripts [][]api.Call, do func(t *turn.Thread, c api.Call) api.Answer) [][]api.Answer {
 	answers := make([][]api.Answer, len(scripts))
 	bodies := make([]func(t *turn.Thread), len(scripts))

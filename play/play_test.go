@@ -3,6 +3,7 @@ package play_test
 import (
 	"math"
 	"slices"
+	"sync"
 	"testing"
 
 	"butler/api"
@@ -34,6 +35,12 @@ func TestCheck(t *testing.T) {
 		if e := play.Check(x.w, x.scripts); e != x.want {
 			t.Errorf("%d: error %d", i, e)
 		}
+		if x.w == nil || x.w.Ran() {
+			continue
+		}
+		if e := play.CheckScripts(x.scripts); e != x.want {
+			t.Errorf("%d, whatever the world: error %d", i, e)
+		}
 	}
 }
 
@@ -45,6 +52,28 @@ func TestWhich(t *testing.T) {
 		if got := play.Which(x[0], x[1]); got != x[2] {
 			t.Errorf("%d of %d: %d", x[0], x[1], got)
 		}
+	}
+}
+
+// of no world the threads are all there at one time: each waits till all have come
+func TestRunFreely(t *testing.T) {
+	var all sync.WaitGroup
+	all.Add(api.MaxThreads)
+	scripts := slices.Repeat([][]api.Call{{{A: 5}, {Op: int(api.ErrStuck)}, {A: 6}}}, api.MaxThreads)
+	a := play.Run(nil, scripts, func(x *turn.Thread, call api.Call) api.Answer {
+		if call.A == 5 {
+			all.Done()
+			all.Wait()
+		}
+		return api.Answer{Code: api.Errno(call.Op), Value: call.A + 10*x.Id()}
+	})
+	for i, got := range a {
+		if !slices.Equal(got, []api.Answer{{Value: 5 + 10*i}, {Code: api.ErrStuck, Value: 10 * i}, {Code: api.ErrStuck}}) {
+			t.Error(i, got)
+		}
+	}
+	if len(a) != api.MaxThreads {
+		t.Error(a)
 	}
 }
 

@@ -14,38 +14,6 @@ import (
 	"butler/turn"
 )
 
-// someCalls are scripts that ask, open and close, mostly in few scopes, and for keys that there are; some have an Op that there is not, if others are told.
-func someCalls(r *trial.Row, keys, threads, most int, others ...int) [][]api.Call {
-	out := r.Scripts(threads, most, slices.Concat(times(r.One(3, 8), 1), times(r.One(1, 3, 3), 2), times(r.One(0, 1, 1, 2), 3), others)...)
-	scopes, few := r.One(1, 1, 2, 4, 8), r.One(1, 2, keys, keys)
-	for _, calls := range out {
-		for i := range calls {
-			calls[i].A, calls[i].B = r.Below(scopes), r.Below(min(few, keys))
-			if r.Below(20) == 0 {
-				calls[i].A = r.One(-1, 49, 50, 1<<32, math.MaxInt, math.MinInt)
-			}
-			if r.Below(20) == 0 {
-				calls[i].B = r.One(-1, keys, keys+1, -keys, 1<<32, math.MaxInt, math.MinInt)
-			}
-		}
-	}
-	for n := range scopes - 1 { // most of them are there ahead of all others
-		out[0] = slices.Insert(out[0], n, open(r.One(n, n, r.Below(n+1))))
-	}
-	return out
-}
-
-// flat are recipes on few Levels: so most of them live in scopes that there are.
-func flat(r *trial.Row, most int) []api.Recipe {
-	l := r.Recipes(most)
-	if levels := r.One(1, 2, 2, 3, 8); levels < 8 {
-		for key := range l {
-			l[key].Level = min(l[key].Level, levels-1)
-		}
-	}
-	return l
-}
-
 // count counts what was told.
 type count struct {
 	codes                 map[api.Errno]int
@@ -86,12 +54,12 @@ func TestCalls(t *testing.T) {
 	r := trial.Row(1)
 	var c count
 	for range 1500 {
-		l := flat(&r, r.One(1, 2, 3, 4, 6, 12))
-		calls, schedule := someCalls(&r, len(l), r.One(1, 2, 3, api.MaxThreads, 20), 5), r.Schedule(400)
+		l := r.FlatRecipes(r.One(1, 2, 3, 4, 6, 12))
+		calls, schedule := r.TreeScripts(len(l), r.One(1, 2, 3, api.MaxThreads, 20), 5), r.Schedule(400)
 		got, _ := trial.Player(func(w *turn.World, scripts [][]api.Call) ([][]api.Answer, api.Errno) {
 			return play.Run(w, scripts, does(made(t, w, l))), api.OK
 		}).Tell(schedule, calls)
-		if want := model(l, calls).Play(schedule); !got.Same(want) {
+		if want := trial.Tree(l, calls).Play(schedule); !got.Same(want) {
 			t.Fatalf("%v, %v of %v:\n%v\nis to be\n%v", schedule, calls, l, got, want)
 		}
 		c.of(got)
@@ -107,10 +75,10 @@ func TestFreely(t *testing.T) {
 	var c count
 	for _, id := range []int{0, 1, 7, 100, 255} {
 		for range 100 {
-			l := flat(&r, r.One(1, 3, 8, 40))
+			l := r.FlatRecipes(r.One(1, 3, 8, 40))
 			do, x := does(made(t, nil, l)), turn.Free(id)
-			calls := slices.Concat(someCalls(&r, len(l), 3, 20)...)
-			told := model(l, scripts(calls)).Play(nil)
+			calls := slices.Concat(r.TreeScripts(len(l), 3, 20)...)
+			told := trial.Tree(l, scripts(calls)).Play(nil)
 			for i, want := range told.Answers[0] {
 				if got := do(x, calls[i]); got != want {
 					t.Fatalf("the thread %d, the call %d of %v, of %v: %v, not %v", id, i, calls, l, got, want)
@@ -249,8 +217,8 @@ func TestPlay(t *testing.T) {
 	r := trial.Row(2)
 	var c count
 	for range 5000 {
-		l := flat(&r, r.One(1, 2, 3, 4, 6, 12))
-		c.of(plays(t, r.Schedule(500), l, someCalls(&r, len(l), r.One(1, 2, 3, api.MaxThreads), 6, r.One(1, 2, 3), r.One(0, 4, -1))))
+		l := r.FlatRecipes(r.One(1, 2, 3, 4, 6, 12))
+		c.of(plays(t, r.Schedule(500), l, r.TreeScripts(len(l), r.One(1, 2, 3, api.MaxThreads), 6, r.One(1, 2, 3), r.One(0, 4, -1))))
 	}
 	if c.least(append(ordinary(), api.ErrArg)...) < 300 || len(c.codes) > 10 {
 		t.Errorf("the Plays are too tame: %v", c)
@@ -302,24 +270,9 @@ func TestSchedules(t *testing.T) {
 	}
 }
 
-// great are recipes at the limits: 100 keys, on one Level or on all, which need each other in rows and rings
-func great() [][]api.Recipe {
-	row, circle, levels, last := make([]api.Recipe, 100), make([]api.Recipe, 100), make([]api.Recipe, 100), make([]api.Recipe, 100)
-	for key := range row {
-		row[key], circle[key] = ending(gives(0, 1000, key+1), key%3), gives(1, -1000, (key+1)%100)
-		last[key] = ending(gives(7, key), 2)
-		levels[key].Level = key * api.MaxLevels / 100
-		for need := max(0, key-api.MaxNeeds); need < key; need++ {
-			levels[key].Needs = append(levels[key].Needs, need)
-		}
-	}
-	row[99].Needs = nil
-	return [][]api.Recipe{row, circle, levels, last}
-}
-
 // at the limits: eight threads, 64 calls each, and more scopes than there may be
 func TestGreatest(t *testing.T) {
-	for i, l := range great() {
+	for i, l := range trial.GreatRecipes() {
 		calls := make([][]api.Call, api.MaxThreads)
 		for thread := range calls {
 			for n := range api.MaxCalls {
@@ -390,7 +343,7 @@ func TestCellsBehindOthers(t *testing.T) {
 // what every Play refuses comes first, then what recipe.Right does
 func TestRefused(t *testing.T) {
 	calls := script(ask(0, 0), open(0), ask(1, -5), shut(300), shut(0), api.Call{Op: 9})
-	for i, l := range append(great(), example()) {
+	for i, l := range append(trial.GreatRecipes(), example()) {
 		if err := player(l).Refuses(calls); err != nil {
 			t.Errorf("%d: %v", i, err)
 		}
@@ -410,9 +363,9 @@ func TestRefused(t *testing.T) {
 func TestMemory(t *testing.T) {
 	r := trial.Row(9)
 	for range 300 {
-		l := trial.RoomyRecipes(flat(&r, 6))
+		l := trial.RoomyRecipes(r.FlatRecipes(6))
 		given := trial.WholeRecipes(l)
-		calls := someCalls(&r, len(l), 3, 5)
+		calls := r.TreeScripts(len(l), 3, 5)
 		want := plays(t, nil, l, calls)
 		w := turn.New(nil)
 		do := does(made(t, w, l))

@@ -106,7 +106,7 @@ func player(l []api.Recipe) trial.Player {
 func plays(t *testing.T, schedule []int, l []api.Recipe, scripts [][]api.Call) trial.Told {
 	t.Helper()
 	got, e := player(l).Tell(schedule, scripts)
-	if want := model(l, scripts).Play(schedule); e != api.OK || !got.Same(want) {
+	if want := trial.Tree(l, scripts).Play(schedule); e != api.OK || !got.Same(want) {
 		t.Fatalf("%v, %v of %v: error %d,\n%v\nis to be\n%v", schedule, scripts, l, e, got, want)
 	}
 	return got

@@ -49,11 +49,7 @@ func (x Told) Stands(first []int) []int {
 // Play is what a game tells under a schedule.
 func (g Game) Play(schedule []int) Told {
 	m := g.run(schedule, false)
-	told := Told{Trace: m.trace, Stuck: m.stuck}
-	for _, x := range m.threads {
-		told.Answers = append(told.Answers, x.answers)
-	}
-	return told
+	return Told{Trace: m.trace, Answers: m.answers(), Stuck: m.stuck}
 }
 
 // Schedules goes through all orders in which a game's threads can go, each told by a schedule that picks every turn.
@@ -95,7 +91,14 @@ type thread struct {
 	calls   []api.Call
 	answers []api.Answer // of the calls that have ended
 	next    Next
-	seen    int // of its cell's changes, when it came to what is next
+	seen    int   // of its cell's changes, when it came to what is next
+	got     []int // all that its steps, awaits and new cells told it: by that it is where it is
+}
+
+// take takes what a thread was told, and goes on to what comes next.
+func (x *thread) take(got int) {
+	x.got = append(x.got, got)
+	x.next = x.next.then(got)
 }
 
 func (x *thread) ended() bool { return len(x.answers) == len(x.calls) }
@@ -103,6 +106,14 @@ func (x *thread) ended() bool { return len(x.answers) == len(x.calls) }
 func (x *thread) awaits() bool { return !x.ended() && x.next.op == api.StepWake }
 
 func (g Game) run(schedule []int, first bool) *world {
+	m := g.begin(schedule, first)
+	for m.turn() {
+	}
+	return m
+}
+
+// begin brings each thread to its first step.
+func (g Game) begin(schedule []int, first bool) *world {
 	if g.Start != nil {
 		g.Start()
 	}
@@ -113,9 +124,16 @@ func (g Game) run(schedule []int, first bool) *world {
 		m.begin(x)
 		m.settle(x)
 	}
-	for m.turn() {
-	}
 	return m
+}
+
+// answers are those of all threads, as far as they have come.
+func (m *world) answers() [][]api.Answer {
+	var out [][]api.Answer
+	for _, x := range m.threads {
+		out = append(out, x.answers)
+	}
+	return out
 }
 
 func (m *world) note(thread, cell, op, before, after int) {
@@ -147,12 +165,12 @@ func (m *world) settle(x *thread) {
 		case x.next.then == nil:
 			m.end(x)
 		case x.next.op == makes:
-			x.next = x.next.then(m.make(x.next.made))
+			x.take(m.make(x.next.made))
 		case x.next.cell == noCell:
 			m.note(x.id, noCell, x.next.op, x.next.a, x.next.b)
-			x.next = x.next.then(0)
+			x.take(0)
 		case x.awaits() && m.stuck:
-			x.next = x.next.then(0)
+			x.take(0)
 		default:
 			x.seen = m.changes[x.next.cell]
 			return
@@ -168,11 +186,16 @@ func (m *world) make(first []int) int {
 	return at
 }
 
+// isReady tells whether a thread could go.
+func (m *world) isReady(x *thread) bool {
+	return !x.ended() && (!x.awaits() || m.stuck || m.changes[x.next.cell] != x.seen)
+}
+
 // turn lets one thread go; false: nobody is left.
 func (m *world) turn() bool {
 	var ready []*thread
 	for _, x := range m.threads {
-		if !x.ended() && (!x.awaits() || m.stuck || m.changes[x.next.cell] != x.seen) {
+		if m.isReady(x) {
 			ready = append(ready, x)
 		}
 	}
@@ -212,10 +235,10 @@ func (m *world) goOn(x *thread) {
 		if m.cells[at] != stood {
 			m.changes[at]++
 		}
-		x.next = x.next.then(stood)
+		x.take(stood)
 	case !m.stuck:
 		m.note(x.id, at, api.StepWake, 0, 0)
-		x.next = x.next.then(1)
+		x.take(1)
 	}
 	m.settle(x)
 }

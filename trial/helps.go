@@ -128,3 +128,25 @@ func (r *Row) Scripts(threads, most int, ops ...int) [][]api.Call {
 	}
 	return out
 }
+
+// TreeScripts are some that ask, open and close in a tree of scopes, mostly in few of them, and for keys that there are; some have an Op of others, if there are any.
+func (r *Row) TreeScripts(keys, threads, most int, others ...int) [][]api.Call {
+	ops := slices.Concat(slices.Repeat([]int{1}, r.One(3, 8)), slices.Repeat([]int{2}, r.One(1, 3, 3)), slices.Repeat([]int{3}, r.One(0, 1, 1, 2)), others)
+	out := r.Scripts(threads, most, ops...)
+	scopes, few := r.One(1, 1, 2, 4, 8), r.One(1, 2, keys, keys)
+	for _, calls := range out {
+		for i := range calls {
+			calls[i].A, calls[i].B = r.Below(scopes), r.Below(min(few, keys))
+			if r.Below(20) == 0 {
+				calls[i].A = r.One(-1, 49, 50, 1<<32, math.MaxInt, math.MinInt)
+			}
+			if r.Below(20) == 0 {
+				calls[i].B = r.One(-1, keys, keys+1, -keys, 1<<32, math.MaxInt, math.MinInt)
+			}
+		}
+	}
+	for n := range scopes - 1 { // most of them are there ahead of all others
+		out[0] = slices.Insert(out[0], n, api.Call{Op: 2, A: r.One(n, n, r.Below(n+1))})
+	}
+	return out
+}

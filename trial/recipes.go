@@ -21,6 +21,46 @@ func (r *Row) Recipes(most int) []api.Recipe {
 	return l
 }
 
+// FlatRecipes are likewise, mostly on few Levels: so most of them live in scopes that there are.
+func (r *Row) FlatRecipes(most int) []api.Recipe {
+	l := r.Recipes(most)
+	if levels := r.One(1, 2, 2, 3, api.MaxLevels); levels < api.MaxLevels {
+		for key := range l {
+			l[key].Level = min(l[key].Level, levels-1)
+		}
+	}
+	return l
+}
+
+// RingRecipes are such that every key is in a ring: so many on each of two Levels, each of which needs the next one of its Level, and some others, too.
+func (r *Row) RingRecipes(many int) []api.Recipe {
+	l := make([]api.Recipe, 2*many)
+	for key := range l {
+		from := key / many * many // its Level's first key
+		l[key] = api.Recipe{Level: key / many, Value: key, Needs: []int{from + (key+1-from)%many}}
+		for range r.One(0, 0, 1, 2) {
+			l[key].Needs = slices.Insert(l[key].Needs, r.Below(len(l[key].Needs)+1), r.Below(from+many))
+		}
+	}
+	return l
+}
+
+// GreatRecipes are at the limits: 100 keys, on one Level or on all, which need each other in a row, in a ring, each many others, or not.
+func GreatRecipes() [][]api.Recipe {
+	row, circle, levels, last := make([]api.Recipe, 100), make([]api.Recipe, 100), make([]api.Recipe, 100), make([]api.Recipe, 100)
+	for key := range row {
+		row[key] = api.Recipe{Value: 1000, Needs: []int{key + 1}, End: key % 3}
+		circle[key] = api.Recipe{Value: -1000, Level: 1, Needs: []int{(key + 1) % 100}}
+		last[key] = api.Recipe{Value: key, Level: 7, End: 2}
+		levels[key].Level = key * api.MaxLevels / 100
+		for need := max(0, key-api.MaxNeeds); need < key; need++ {
+			levels[key].Needs = append(levels[key].Needs, need)
+		}
+	}
+	row[99].Needs = nil
+	return [][]api.Recipe{row, circle, levels, last}
+}
+
 // needs are some of a key: of those below it, of those above it, mostly of those below it, or of all.
 func (r *Row) needs(way, key, many int) []int {
 	var out []int
