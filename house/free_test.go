@@ -10,17 +10,10 @@ import (
 
 // P15.4: whoever goes, a Play of no world ends, and its answers are those of some order of steps.
 
-// playsTogether is a free Play of threads that would be over one by one before the next one begins: all ask first for a key whose building takes its time, and so go on at about the same time. The answers are without that one.
+// playsTogether is a free Play of threads that meet. The answers are without the one that lets them.
 func playsTogether(t *testing.T, l []api.Recipe, calls [][]api.Call) [][]api.Answer {
 	t.Helper()
-	slow, late := slices.Clone(l), slices.Clone(calls)
-	for len(slow) < 60 {
-		slow = append(slow, gives(0, 0, len(slow)+1))
-	}
-	slow[len(slow)-1].Needs = nil
-	for thread := range late {
-		late[thread] = slices.Insert(slices.Clone(calls[thread]), 0, ask(0, len(l)))
-	}
+	slow, late := trial.Together(l, calls)
 	out := playsFreely(t, slow, late)
 	for thread, told := range out {
 		if told[0] != fine(0) && told[0] != isShut {
